@@ -1,0 +1,1 @@
+"""Hornbook: a Prolog system."""

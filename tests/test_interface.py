@@ -1,0 +1,78 @@
+"""The interface: names, arguments and the files in which they are defined."""
+
+import importlib
+import inspect
+import unittest
+
+FUNCTIONS = {
+    "hornbook.terms": {
+        "variable": "number", "integer": "value", "atom": "name", "compound": "name *parts",
+        "is_term": "value", "parts": "term", "list_term": "items tail:None", "list_items": "term",
+        "variables": "term", "renumber": "term first=0", "are_variants": "left right",
+    },
+    "hornbook.order": {"compare": "left right", "sort_terms": "items unique:False"},
+    "hornbook.unify": {
+        "apply": "substitution term", "compose": "first second", "unify": "left right",
+        "matches": "general special",
+    },
+    "hornbook.tokens": {"tokens": "text"},
+    "hornbook.operators": {"initial_table": "", "with_operator": "table priority form name"},
+    "hornbook.reader": {"read_term": "text table", "read_clauses": "text table"},
+    "hornbook.writer": {"write": "term table"},
+    "hornbook.program": {
+        "is_control": "name arity", "is_built_in": "name arity", "goal_form": "term",
+        "head_and_body": "clause", "read_program": "text",
+    },
+    "hornbook.arithmetic": {"evaluate": "term"},
+}
+METHODS = {
+    ("hornbook.program", "Program"): {
+        "__init__": "self clauses dynamic", "clauses": "self", "predicate": "self name arity",
+        "with_clause": "self clause first:False", "without": "self name arity position",
+        "is_dynamic": "self name arity",
+    },
+}
+
+
+def shape(function):
+    """The parameters: `x=1` for a default value, `x:1` for one by keyword only, `*x`."""
+    words = []
+    for parameter in inspect.signature(function).parameters.values():
+        if parameter.kind == parameter.VAR_POSITIONAL:
+            words.append("*" + parameter.name)
+        elif parameter.kind == parameter.KEYWORD_ONLY:
+            words.append(f"{parameter.name}:{parameter.default!r}")
+        elif parameter.default is not parameter.empty:
+            words.append(f"{parameter.name}={parameter.default!r}")
+        else:
+            words.append(parameter.name)
+    return " ".join(words)
+
+
+class Interface(unittest.TestCase):
+
+    def test_functions(self):
+        for module_name, functions in FUNCTIONS.items():
+            module = importlib.import_module(module_name)
+            for name, expected in functions.items():
+                with self.subTest(f"{module_name}.{name}"):
+                    function = getattr(module, name)
+                    self.assertTrue(inspect.isfunction(function))
+                    self.assertEqual(shape(function), expected)
+                    self.assertEqual(function.__module__, module_name)
+
+    def test_methods_stand_in_the_class_itself(self):
+        for (module_name, class_name), methods in METHODS.items():
+            found = getattr(importlib.import_module(module_name), class_name)
+            self.assertEqual(found.__module__, module_name)
+            for name, expected in methods.items():
+                with self.subTest(f"{class_name}.{name}"):
+                    self.assertIn(name, vars(found))
+                    self.assertEqual(shape(vars(found)[name]), expected)
+
+    def test_most_nodes(self):
+        self.assertEqual(importlib.import_module("hornbook.unify").MOST_NODES, 200)
+
+
+if __name__ == "__main__":
+    unittest.main()
