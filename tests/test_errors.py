@@ -33,10 +33,10 @@ class Errors(unittest.TestCase):
             with self.subTest(name):
                 self.assertEqual(getattr(errors, name).__module__, "hornbook.errors")
 
-    def test_no_other_error_class(self):
+    def test_any_other_error_class_derives_from_the_base_class_alone(self):
         for name, value in vars(errors).items():
-            if isinstance(value, type) and issubclass(value, Exception):
-                self.assertIn(name, BASES)
+            if isinstance(value, type) and issubclass(value, Exception) and name not in BASES:
+                self.assertEqual(value.__bases__, (errors.HornbookError,))
 
     def test_made_with_a_text(self):
         for name in BASES:
