@@ -183,6 +183,22 @@ def renumber(term, first=0):
     return tuple(nodes)
 
 
+def renumber_together(terms, first=0):
+    """Return the list of the terms, renumbered as if they were one term."""
+    nodes = renumber([node for term in terms for node in term], first)
+    found = []
+    at = 0
+    for term in terms:
+        found.append(nodes[at:at + len(term)])
+        at += len(term)
+    return found
+
+
+def next_number(terms):
+    """Return the least number that is greater than those of all variables of the terms."""
+    return max([node[1] + 1 for term in terms for node in term if is_variable(node)], default=0)
+
+
 def are_variants(left, right):
     """Tell whether one term is the other with its variables renamed one to one."""
     return renumber(left) == renumber(right)

@@ -86,7 +86,12 @@ def settle(found):
 
 def unify(left, right):
     """Return a most general unifier of two terms, or None if there is none."""
-    bound = max(MOST_NODES, len(left), len(right))
+    return unify_within(left, right, MOST_NODES)
+
+
+def unify_within(left, right, most):
+    """Return what unify returns, with another number in place of MOST_NODES."""
+    bound = max(most, len(left), len(right))
     one, other = Side(left), Side(right)
     found = {}
     while len(one.rest) > 0:

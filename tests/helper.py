@@ -1,10 +1,23 @@
-"""Terms for the tests, built without the program, and values for the checks."""
+"""Terms for the tests, built without the program or read from a text, and values for the checks."""
 
 import random
 
+from hornbook.operators import initial_table
+from hornbook.reader import read_clauses, read_term
+from hornbook.writer import write
+
+TABLE = initial_table()
 EMPTY = (("f", "[]", 0),)
 # Terms are nested up to this deep: each has 1,000 nodes.
 DEPTH = 999
+CONTROL = [("true", 0), ("fail", 0), ("!", 0), (",", 2), (";", 2), ("->", 2), ("\\+", 1)]
+CONTROL += [("call", arity) for arity in range(1, 9)] + [("catch", 3), ("findall", 3), ("throw", 1)]
+BUILT_IN = [
+    ("=", 2), ("\\=", 2), ("==", 2), ("\\==", 2), ("@<", 2), ("compare", 3), ("var", 1), ("nonvar", 1), ("atom", 1),
+    ("integer", 1), ("callable", 1), ("functor", 3), ("arg", 3), ("=..", 2), ("copy_term", 2), ("sort", 2), ("is", 2),
+    ("=:=", 2), ("<", 2), ("=<", 2), ("write", 1), ("nl", 0), ("asserta", 1), ("assertz", 1), ("retract", 1),
+    ("tabled", 1), ("solve", 2),
+]
 
 
 def v(number):
@@ -72,3 +85,48 @@ def random_term(source, size, names, *, numbers=4, arities=(1, 2, 2, 3)):
 def seeded(number):
     """A source of the same numbers in each run."""
     return random.Random(number)
+
+
+def read(text):
+    """The term of a text without the period at its end."""
+    return read_term(text + " .", TABLE)
+
+
+def reads(*texts):
+    return [read(text) for text in texts]
+
+
+def clauses(text):
+    return read_clauses(text, TABLE)
+
+
+def shown(term):
+    return write(term, TABLE)
+
+
+def rule(head, *goals):
+    """The clause with this head and these goals, joined to the right."""
+    body = goals[-1]
+    for goal in goals[-2::-1]:
+        body = f(",", goal, body)
+    return f(":-", head, body)
+
+
+def facts(count):
+    """The clauses p(0), p(1), and so on."""
+    return [f("p", i(number)) for number in range(count)]
+
+
+def random_clauses(source, count):
+    """A small definite program over p/1, q/2 and r/0 whose bodies have up to three goals."""
+    def argument(depth=0):
+        kind = source.randrange(7 if depth < 1 else 6)
+        if kind < 3:
+            return v(source.randrange(3))
+        return f("s", argument(1)) if kind == 6 else a("xyz"[kind % 3])
+
+    def goal():
+        kind = source.randrange(5)
+        return a("r") if kind == 0 else f("p", argument()) if kind < 3 else f("q", argument(), argument())
+
+    return [rule(goal(), *[goal() for _ in range(source.choice((0, 0, 1, 2, 3)))], a("true")) for _ in range(count)]

@@ -24,6 +24,22 @@ FUNCTIONS = {
         "head_and_body": "clause", "read_program": "text",
     },
     "hornbook.arithmetic": {"evaluate": "term"},
+    "hornbook.definite": {"head_and_goals": "clause", "resolve": "query goals pick clause"},
+    "hornbook.derivations": {
+        "derive": "program query steps", "accepts": "program derivation", "follows": "program derivation",
+    },
+    "hornbook.tables": {
+        "table_order": "left right", "tables": "program query", "table_answers": "program query",
+        "closed": "program listed", "reason": "program query call answer",
+    },
+    "hornbook.domains": {
+        "domain": "values", "values": "given", "meet": "first second", "without": "given value", "is_domain": "value",
+    },
+    "hornbook.matching": {"distinct_values": "given"},
+}
+NUMBERS = {
+    ("hornbook.unify", "MOST_NODES"): 200, ("hornbook.derivations", "MOST_DEPTH"): 60,
+    ("hornbook.tables", "MOST_CALLS"): 40, ("hornbook.tables", "MOST_ANSWERS"): 200,
 }
 METHODS = {
     ("hornbook.program", "Program"): {
@@ -70,8 +86,9 @@ class Interface(unittest.TestCase):
                     self.assertIn(name, vars(found))
                     self.assertEqual(shape(vars(found)[name]), expected)
 
-    def test_most_nodes(self):
-        self.assertEqual(importlib.import_module("hornbook.unify").MOST_NODES, 200)
+    def test_numbers(self):
+        for (module_name, name), expected in NUMBERS.items():
+            self.assertEqual(getattr(importlib.import_module(module_name), name), expected)
 
 
 if __name__ == "__main__":

@@ -2,18 +2,10 @@
 
 import unittest
 
-from helper import DEPTH, a, chain, f, i, items, left_chain, right_chain, sized, v
+from helper import BUILT_IN, CONTROL, DEPTH, a, chain, f, i, items, left_chain, right_chain, sized, v
 from hornbook.errors import BadClause, BadOperator, BadText
 from hornbook.program import Program, goal_form, head_and_body, is_built_in, is_control, read_program
 
-CONTROL = [("true", 0), ("fail", 0), ("!", 0), (",", 2), (";", 2), ("->", 2), ("\\+", 1)]
-CONTROL += [("call", arity) for arity in range(1, 9)] + [("catch", 3), ("findall", 3), ("throw", 1)]
-BUILT_IN = [
-    ("=", 2), ("\\=", 2), ("==", 2), ("\\==", 2), ("@<", 2), ("compare", 3), ("var", 1), ("nonvar", 1), ("atom", 1),
-    ("integer", 1), ("callable", 1), ("functor", 3), ("arg", 3), ("=..", 2), ("copy_term", 2), ("sort", 2), ("is", 2),
-    ("=:=", 2), ("<", 2), ("=<", 2), ("write", 1), ("nl", 0), ("asserta", 1), ("assertz", 1), ("retract", 1),
-    ("tabled", 1), ("solve", 2),
-]
 OTHERS = ["foo", "[]", "{}", ".", ":-", ">", ">=", "=\\=", "@>", "not", "once", "halt", "op", "dynamic", "repeat"]
 TRUE = a("true")
 
