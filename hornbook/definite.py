@@ -17,12 +17,8 @@ def check_goal(term):
         raise NotDefinite(f"{name}/{arity} is no predicate of a definite program")
 
 
-def head_and_goals(clause):
-    """Return the pair of the head and the list of the goals of a definite clause."""
-    if len(clause) > MOST_CLAUSE_NODES:
-        raise NotDefinite("a clause has at most 200 nodes")
-    head, body = split_clause(clause)
-    check_goal(head)
+def goals_of(body):
+    """Return the list of the goals of the body of a definite clause."""
     goals = []
     at = 0
     while at < len(body):
@@ -33,7 +29,16 @@ def head_and_goals(clause):
                 check_goal(body[at:end])
                 goals.append(body[at:end])
         at = end
-    return head, goals
+    return goals
+
+
+def head_and_goals(clause):
+    """Return the pair of the head and the list of the goals of a definite clause."""
+    if len(clause) > MOST_CLAUSE_NODES:
+        raise NotDefinite("a clause has at most 200 nodes")
+    head, body = split_clause(clause)
+    check_goal(head)
+    return head, goals_of(body)
 
 
 def definite_clauses(program):

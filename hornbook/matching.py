@@ -35,9 +35,8 @@ def exchange(start, choices, owners):
     return None, sorted(list(askers))
 
 
-def distinct_values(given):
-    """Return different values, one of each domain, and None; or None and why there are none."""
-    choices = [values(one) for one in given]
+def match_choices(choices):
+    """Return different values, one of each list, and None; or None and why there are none."""
     owners = {}
     for start in range(len(choices)):
         changes, stuck = exchange(start, choices, owners)
@@ -47,3 +46,8 @@ def distinct_values(given):
             owners[value] = variable
     chosen = {variable: value for value, variable in owners.items()}
     return [chosen[variable] for variable in range(len(choices))], None
+
+
+def distinct_values(given):
+    """Return different values, one of each domain, and None; or None and why there are none."""
+    return match_choices([values(one) for one in given])

@@ -130,3 +130,29 @@ def random_clauses(source, count):
         return a("r") if kind == 0 else f("p", argument()) if kind < 3 else f("q", argument(), argument())
 
     return [rule(goal(), *[goal() for _ in range(source.choice((0, 0, 1, 2, 3)))], a("true")) for _ in range(count)]
+
+
+def intervals(members):
+    """The domain of an ascending list of different values."""
+    found = []
+    for value in members:
+        if found and found[-1][1] == value - 1:
+            found[-1] = (found[-1][0], value)
+        else:
+            found.append((value, value))
+    return tuple(found)
+
+
+def random_domain(source, low, high, share):
+    return intervals([value for value in range(low, high + 1) if source.random() < share])
+
+
+def random_constraint(source, count):
+    kind = source.choice(("le", "eq", "ne", "times", "distinct"))
+    if kind == "times":
+        return (kind, *[source.randrange(count) for _ in range(3)])
+    chosen = tuple(source.sample(range(count), source.randrange(1, count + 1)))
+    if kind == "distinct":
+        return (kind, chosen)
+    factors = (-3, -2, -1, 1, 2, 3)
+    return (kind, tuple((source.choice(factors), variable) for variable in chosen), source.randrange(-6, 7))

@@ -2,21 +2,13 @@
 
 import unittest
 
-from helper import seeded
+from helper import intervals, seeded
 from hornbook.domains import domain, is_domain, meet, values, without
 from hornbook.errors import BadProblem
 
 
 def plain(members):
-    """The intervals of the values, one step behind the other."""
-    found = []
-    for value in range(-50, 51):
-        if value in members:
-            if value - 1 in members:
-                found[-1][1] = value
-            else:
-                found.append([value, value])
-    return tuple((low, high) for low, high in found)
+    return intervals(sorted(members))
 
 
 class Domain(unittest.TestCase):

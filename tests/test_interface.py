@@ -36,6 +36,14 @@ FUNCTIONS = {
         "domain": "values", "values": "given", "meet": "first second", "without": "given value", "is_domain": "value",
     },
     "hornbook.matching": {"distinct_values": "given"},
+    "hornbook.narrowing": {
+        "allows": "domains constraint variable value", "stable": "domains constraints", "narrow": "domains constraints",
+    },
+    "hornbook.posing": {"pose": "constraints"},
+    "hornbook.solving": {
+        "satisfies": "domains constraints chosen", "solutions": "domains constraints most:None",
+    },
+    "hornbook.primitives": {"perform": "goal first program"},
 }
 NUMBERS = {
     ("hornbook.unify", "MOST_NODES"): 200, ("hornbook.derivations", "MOST_DEPTH"): 60,
@@ -46,6 +54,10 @@ METHODS = {
         "__init__": "self clauses dynamic", "clauses": "self", "predicate": "self name arity",
         "with_clause": "self clause first:False", "without": "self name arity position",
         "is_dynamic": "self name arity",
+    },
+    ("hornbook.search", "Search"): {
+        "__init__": "self program query", "step": "self", "run": "self steps", "ended": "self", "program": "self",
+        "depth": "self",
     },
 }
 
