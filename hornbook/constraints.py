@@ -85,7 +85,7 @@ def fulfils(kind, total, bound):
 
 def is_hopeless(constraint):
     """Tell whether a constraint is a sum without pairs that is not fulfilled."""
-    return constraint[0] in SUM_KINDS and constraint[1] == () and not fulfils(constraint[0], 0, constraint[2])
+    return constraint[1] == () and not fulfils(constraint[0], 0, constraint[2])
 
 
 def ends(row, factor):
@@ -169,7 +169,7 @@ def allowed_by_distinct(rows, constraint):
     # Who owns a value can have another one if someone gets a free value, or in a circle.
     free = [any([value not in owners for value in row]) for row in choices]
     reached = [givers(at, choices, chosen) for at in range(len(members))]
-    escapes = [any([free[place] for place in found]) for found in reached]
+    escapes = [any([free[place] for place in places]) for places in reached]
     found = {}
     for at, variable in enumerate(members):
         found[variable] = [

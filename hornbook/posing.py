@@ -20,16 +20,16 @@ SUM_SYMBOLS = {
 
 def is_interval(term):
     """Tell whether a term has the form V in L .. H."""
-    if len(term) != 5 or term[0] != IN or term[2] != INTERVAL:
+    if term[0] != IN or not is_variable(term[1]) or term[2] != INTERVAL:
         return False
-    return is_variable(term[1]) and is_integer(term[3]) and is_integer(term[4])
+    return is_integer(term[3]) and is_integer(term[4])
 
 
 def is_product(term):
     """Tell whether a term has the form Z =:= X * Y."""
-    if len(term) != 5 or term[0] != EQUAL or term[2] != PRODUCT:
+    if term[0] != EQUAL or not is_variable(term[1]) or term[2] != PRODUCT:
         return False
-    return is_variable(term[1]) and is_variable(term[3]) and is_variable(term[4])
+    return is_variable(term[3]) and is_variable(term[4])
 
 
 def distinct_variables(term):

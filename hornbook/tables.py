@@ -138,9 +138,7 @@ class Tabling:
                 self.add_goal(fact)
 
     def answers_of(self, call):
-        """Return the answers of a call in table order, none if there is no such call."""
-        if call not in self.numbers:
-            return []
+        """Return the answers of a call in table order."""
         return sorted(list(self.answers[self.numbers[call]]), key=term_key)
 
     def listed(self):

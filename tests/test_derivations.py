@@ -350,6 +350,15 @@ class Accepts(unittest.TestCase):
                       (a("r"), 3), a("r"), ((("v", -1),), 2, ()), ((("f", "r", False),), 3, ())):
             self.accepted(value, False)
 
+    def test_negative_indexes(self):
+        program = clauses("p(X). q(X).")
+        self.assertIs(accepts(program, (f("q", v(0)), 1, ())), True)
+        for value in ((f("q", v(0)), -1, ()), (f("p", v(0)), -2, ()), (f("p", v(0)), -1, ()), (f("q", v(0)), -3, ())):
+            self.assertIs(accepts(program, value), False)
+        program = clauses("p(X) :- q(X). q(X).")
+        self.assertIs(accepts(program, (f("p", v(0)), 0, ((f("q", v(0)), 1, ()),))), True)
+        self.assertIs(accepts(program, (f("p", v(0)), 0, ((f("q", v(0)), -1, ()),))), False)
+
     def test_one_substitution_for_all(self):
         self.accepted((read("t(a, a)"), 4, ()))
         self.accepted((read("t(a, b)"), 4, ()), False)

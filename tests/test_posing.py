@@ -77,7 +77,8 @@ class Pose(unittest.TestCase):
     def test_times(self):
         self.check(["V0 =:= V1 * V2"], [("times", 1, 2, 0)])
         self.check(["V0 =:= V0 * V0", "V1 =:= V0 * V0"], [("times", 0, 0, 0), ("times", 0, 0, 1)])
-        self.check(["V0 =:= 2 * V1"], [("eq", ((1, 0), (-2, 1)), 0)])
+        self.check(["V0 =:= 2 * V1", "V0 =:= V1 + V2", "V0 =:= V1 - V2"], [
+            ("eq", ((1, 0), (-2, 1)), 0), ("eq", ((1, 0), (-1, 1), (-1, 2)), 0), ("eq", ((1, 0), (-1, 1), (1, 2)), 0)])
 
     def test_distinct(self):
         self.check(["distinct([V2, V0])", "distinct([V1])"], [("distinct", (2, 0)), ("distinct", (1,))])
@@ -95,6 +96,9 @@ class Pose(unittest.TestCase):
                      "V0 in 1 .. V1", "3 in 1 .. 2", "a in 1 .. 2", "V0 in 1 + 2", "V0 in (1 + 1) .. 3",
                      "V0 in [1, 2]", "V0 in f(1, 2)", "distinct(V0)", "distinct([V0, V0])", "distinct([V0 | V1])",
                      "distinct([V0, 1])", "distinct([f(V0)])", "distinct(a)", "distinct([V0], V1)", "distinct",
+                     "V0 = 1 .. 2", "V0 =:= 1 .. 2", "V0 =:= V1 * 2", "V0 in V1 * V2", "V0 in 1 .. f(2)",
+                     "V0 in f(1) .. 2", "f(V0) in 1 .. 2", "V0 =:= V1 * f(V2)", "V0 =:= f(V1) * V2",
+                     "f(V0) =:= V1 * V2", "in(V0)", "in", "..", "in(V0, '..')", "V0 =:= '*'", "V0 =:= '..'",
                      "V0 < V1, V1 < V2", "[V0 < V1]", "V0 < V1 + X * 3", "':'(a, b)"):
             with self.subTest(text):
                 terms = numbered(*DOMAINS, "V0 < V1", text, "V3 < V0")

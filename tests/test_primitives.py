@@ -121,6 +121,7 @@ class Inspection(Performing):
 
     def test_functor_makes_a_term(self):
         self.check("functor(T, f, 2)", f("functor", f("f", v(0), v(1)), a("f"), i(2)), new=2)
+        self.check("functor(T, foo, 1)", f("functor", f("foo", v(0)), a("foo"), i(1)), new=1)
         self.check("functor(T, f, 0)", "functor(f, f, 0)")
         self.check("functor(T, 7, 0)", "functor(7, 7, 0)")
         self.check("functor(T, [], 1)", f("functor", f("[]", v(0)), EMPTY, i(1)), new=1)
@@ -143,6 +144,10 @@ class Inspection(Performing):
         self.raises("functor(T, 3, -1)", "representation_error(arity)")
         self.raises("functor(T, f(x), 1)", "type_error(atom, f(x))")
         self.raises("functor(T, f(x), 0)", "type_error(atom, f(x))")
+        self.raises("functor(T, f(X), 1)", f("type_error", a("atom"), f("f", v(1))))
+        self.raises("functor(T, f, g(3))", "type_error(integer, g(3))")
+        self.raises("functor(T, g(3), h(2))", "type_error(integer, h(2))")
+        self.raises("functor(T, g(3), 1)", "type_error(atom, g(3))")
         self.raises("functor(T, 3, 1)", "type_error(atom, 3)")
         self.raises("functor(T, 3, 8)", "type_error(atom, 3)")
 
@@ -160,6 +165,8 @@ class Inspection(Performing):
         self.raises("arg(I, 3, X)", "instantiation_error")
         self.raises("arg(a, f(a), X)", "type_error(integer, a)")
         self.raises("arg(a, b, X)", "type_error(integer, a)")
+        self.raises("arg(f(Y), g(Z), X)", f("type_error", a("integer"), f("f", v(0))))
+        self.raises("arg(f(1), g(Z), X)", "type_error(integer, f(1))")
         self.raises("arg(1, a, X)", "type_error(compound, a)")
         self.raises("arg(1, 3, X)", "type_error(compound, 3)")
         self.raises("arg(0, [], X)", "type_error(compound, [])")
@@ -180,6 +187,8 @@ class Inspection(Performing):
         self.check("T =.. [a]", "a =.. [a]")
         self.check("T =.. [7]", "7 =.. [7]")
         self.check("T =.. [f(x)]", "f(x) =.. [f(x)]")
+        self.check("T =.. [f(X)]", "f(X) =.. [f(X)]")
+        self.check("T =.. [foo, g(X), X]", "foo(g(X), X) =.. [foo, g(X), X]")
         eight = items(a("f"), *[i(k) for k in range(8)])
         self.check(f("=..", v(0), eight), f("=..", f("f", *[i(k) for k in range(8)]), eight))
         self.check("T =.. [f, T]", None)
@@ -499,6 +508,7 @@ class Solve(Performing):
         self.raises("solve([X], [Y < 3, Y in 1 .. 2, Y in 1 .. 2])",
                     f("type_error", a("constraint"), f("<", v(1), i(3))))
         self.raises("solve([foo], [X in 5 .. 4])", "type_error(variable, foo)")
+        self.raises("solve([7, f(3)], [])", "type_error(variable, f(3))")
 
     def test_200_and_201_solutions(self):
         for goal, expected in (("solve([X, Y], [X in 1 .. 50, Y in 1 .. 4])", 200),

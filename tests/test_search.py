@@ -413,9 +413,12 @@ class Control(Searching):
         self.check(program, "r(X)", answers("1", "2", "3"))
         self.check("q(X) :- (fail -> true ; !, X = 5). q(6).", "q(X)", answers("5"))
         self.check("q(X) :- (! -> X = 1). q(6).", "q(X)", answers("1", "6"))
+        self.check("p(1). p(2). q(X) :- (p(X), !, X = 2 -> true ; X = 5).", "q(X)", answers("5"))
+        self.check("p(1). p(2). q(X) :- (p(X), !, X = 2 -> true). q(6).", "q(X)", answers("6"))
 
     def test_the_cut_in_a_negation(self):
         self.check("p :- \\+ (!, fail). p.", "p", answers("", ""))
+        self.check("p(1). p(2).", "\\+ (p(X), !, X = 2)", answers("_0"))
         self.check("p(1). p(2). q(X) :- p(X), \\+ \\+ !.", "q(X)", answers("1", "2"))
 
     def test_the_cut_in_call_catch_and_findall(self):
