@@ -64,8 +64,8 @@ class Tabling:
     is settled first, so that full tables are noticed soon.
     """
 
-    def __init__(self, clauses, *, by_cost):
-        self.clauses = clauses
+    def __init__(self, pairs, *, by_cost):
+        self.pairs = pairs
         self.by_cost = by_cost
         self.numbers = {}
         # For each call: the answers with their facts, and the facts that wait for them.
@@ -93,7 +93,7 @@ class Tabling:
             self.numbers[call] = len(self.numbers)
             self.answers.append({})
             self.waiting.append([])
-            for index, clause in enumerate(self.clauses):
+            for index, clause in enumerate(self.pairs):
                 terms = first_terms(call, clause)
                 if terms is not None:
                     self.push((self.numbers[call], terms), 1, index)
