@@ -61,12 +61,11 @@ def check_size(size, most):
         raise TooLarge(f"a term has more than {most} nodes")
 
 
-def resolve(query, goals, pick, clause):
-    """Return the query and the goals after resolving one goal with a clause, or None."""
-    check_goal(query)
-    for goal in goals:
-        check_goal(goal)
-    head, own = renamed(head_and_goals(clause), next_number([query, *goals]))
+def resolved(query, goals, pick, pair):
+    """Return what resolve returns, for a pair of a head and its goals and without its checks."""
+    if goals[pick][0] != pair[0][0]:
+        return None
+    head, own = renamed(pair, next_number([query, *goals]))
     unifier = unify(goals[pick], head)
     if unifier is None:
         return None
@@ -74,3 +73,11 @@ def resolve(query, goals, pick, clause):
     check_size(max([len(term) for term in terms]), MOST_NODES)
     terms = renumber_together(terms)
     return terms[0], terms[1:]
+
+
+def resolve(query, goals, pick, clause):
+    """Return the query and the goals after resolving one goal with a clause, or None."""
+    check_goal(query)
+    for goal in goals:
+        check_goal(goal)
+    return resolved(query, goals, pick, head_and_goals(clause))

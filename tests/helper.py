@@ -4,6 +4,7 @@ import random
 
 from hornbook.operators import initial_table
 from hornbook.reader import read_clauses, read_term
+from hornbook.terms import parts
 from hornbook.writer import write
 
 TABLE = initial_table()
@@ -156,3 +157,85 @@ def random_constraint(source, count):
         return (kind, chosen)
     factors = (-3, -2, -1, 1, 2, 3)
     return (kind, tuple((source.choice(factors), variable) for variable in chosen), source.randrange(-6, 7))
+
+
+def random_body(source, size, goal):
+    """A body with about so many constructs and goals; `goal` makes a goal from the source."""
+    if size <= 1:
+        kind = source.randrange(14)
+        if kind < 4:
+            return a(("true", "fail", "!", "!")[kind])
+        return v(source.randrange(5)) if kind == 4 and source.random() < 0.3 else goal(source)
+    name = source.choice((",", ",", ",", ";", ";->", "->", "\\+"))
+    if name == "\\+":
+        return f("\\+", random_body(source, size - 1, goal))
+    left = source.randrange(1, size)
+    first, second = random_body(source, left, goal), random_body(source, size - left, goal)
+    if name == ";->":
+        return f(";", f("->", first, second), random_body(source, max(1, size // 3), goal))
+    return f(name, first, second)
+
+
+def random_goal(source):
+    """A goal of p/1, q/2 or r/0 with small arguments."""
+    def argument(depth):
+        kind = source.randrange(8)
+        if kind < 4:
+            return v(source.randrange(4))
+        if kind < 6:
+            return a("xy"[kind - 4])
+        if kind == 6 or depth > 1:
+            return i(source.randrange(2))
+        return f("s", argument(depth + 1)) if source.random() < 0.6 else f("t", argument(depth + 1), argument(depth + 1))
+
+    name, arity = source.choice((("p", 1), ("q", 2), ("r", 0), ("p", 1), ("q", 2)))
+    return f(name, *[argument(0) for _ in range(arity)])
+
+
+def split_body(term):
+    """The goals of a body that are joined by `,`, without `true`."""
+    found, waiting = [], [term]
+    while waiting:
+        term = waiting.pop()
+        if term[0] == ("f", ",", 2):
+            left, right = parts(term)
+            waiting += [right, left]
+        elif term != a("true"):
+            found.append(term)
+    return found
+
+
+def normal_goals(term):
+    """The goals of a body in the form of point 55."""
+    found = []
+    for goal in split_body(term):
+        words = parts(goal)
+        if not isinstance(goal[0], tuple) or goal[0][0] == "v":
+            goal = f("call", goal)
+        elif goal[0] == ("f", "->", 2):
+            goal = f(";", f("->", normal_body(words[0]), normal_body(words[1])), a("fail"))
+        elif goal[0] == ("f", ";", 2) and words[0][0] == ("f", "->", 2):
+            condition, then = parts(words[0])
+            goal = f(";", f("->", normal_body(condition), normal_body(then)), normal_body(words[1]))
+        elif goal[0] in (("f", ";", 2), ("f", "\\+", 1)):
+            goal = f(goal[0][1], *[normal_body(word) for word in words])
+        found.append(goal)
+    return found
+
+
+def normal_body(term):
+    """A body in the form of point 55."""
+    goals = normal_goals(term)
+    body = goals.pop() if goals else a("true")
+    while goals:
+        body = f(",", goals.pop(), body)
+    return body
+
+
+def renumbered(terms):
+    """The terms renumbered together."""
+    names, found = {}, []
+    for term in terms:
+        found.append(tuple(("v", names.setdefault(node, len(names))) if isinstance(node, tuple) and node[0] == "v"
+                           else node for node in term))
+    return found

@@ -6,8 +6,11 @@ from helper import (
     BUILT_IN, CONTROL, a, chain, f, i, items, left_chain, random_clauses, read, reads, right_chain, rule, seeded,
     sized, v)
 from hornbook.definite import head_and_goals, resolve
+from hornbook.derivations import accepts, derive, follows
 from hornbook.errors import NotDefinite, TooLarge
+from hornbook.tables import closed, reason, table_answers, tables
 from hornbook.terms import renumber, variables
+from hornbook.trees import accepts_tree, search_tree, tree_answers
 from hornbook.unify import apply, unify
 
 TRUE = a("true")
@@ -204,6 +207,54 @@ class Resolve(unittest.TestCase):
             goals[pick:pick + 1] = own
             whole = f("g", *[apply(unifier, term) for term in [query, *goals]])
             self.assertEqual(f("g", found[0], *found[1]), renumber(whole))
+
+
+class Everywhere(unittest.TestCase):
+    """Each function that takes a definite program, a clause or a query raises NotDefinite before all else."""
+
+    def refuse(self, function, *arguments):
+        with self.subTest(function.__name__), self.assertRaises(NotDefinite):
+            function(*arguments)
+
+    def test_programs(self):
+        good = [read("p(X) :- q(X), true"), read("q(a)"), read("r")]
+        wrong = [f(":-", goal, a("r")) for goal in NO_GOALS] + [v(0), i(3), a("!"), a("nl")]
+        wrong += [rule(a("r"), a("p"), goal, a("q")) for goal in NO_GOALS if goal not in (TRUE, f(",", v(0), v(1)))]
+        wrong += [sized(201), rule(a("r"), sized(199))]
+        programs = [good[:at] + [clause] + good[at:] for at, clause in enumerate(wrong * 2) for at in [at % 4]]
+        programs.append(good + [a("r")] * 198)
+        values = [None, True, 7, "text", [], (), (a("p"), 0, ()), (0, ()), [(a("p"), [])]]
+        for number, program in enumerate(programs):
+            value = values[number % len(values)]
+            for query in (a("p"), sized(1000)):
+                self.refuse(derive, program, query, 10 ** 9)
+                self.refuse(search_tree, program, query, [])
+                self.refuse(accepts_tree, program, query, value)
+                self.refuse(tree_answers, program, query, value)
+                self.refuse(tables, program, query)
+                self.refuse(table_answers, program, query)
+                self.refuse(reason, program, query, query, a("r"))
+            self.refuse(accepts, program, value)
+            self.refuse(follows, program, value)
+            self.refuse(closed, program, value)
+
+    def test_queries(self):
+        for goal in NO_GOALS:
+            for program in ([], [read("p(X) :- p(s(X))")], [chain("s", 199, v(0))]):
+                self.refuse(derive, program, goal, 0)
+                self.refuse(search_tree, program, goal, [1, 2])
+                self.refuse(accepts_tree, program, goal, "none")
+                self.refuse(tree_answers, program, goal, "none")
+                self.refuse(tables, program, goal)
+                self.refuse(table_answers, program, goal)
+                self.refuse(reason, program, goal, goal, goal)
+            self.refuse(resolve, goal, [a("q")], 0, a("q"))
+
+    def test_clauses(self):
+        for goal in NO_GOALS:
+            self.refuse(head_and_goals, f(":-", goal, a("r")))
+            self.refuse(resolve, a("p"), [a("q")], 5, f(":-", goal, a("r")))
+            self.refuse(resolve, a("p"), [], 0, f(":-", goal, a("r")))
 
 
 if __name__ == "__main__":

@@ -28,6 +28,13 @@ FUNCTIONS = {
     "hornbook.derivations": {
         "derive": "program query steps", "accepts": "program derivation", "follows": "program derivation",
     },
+    "hornbook.trees": {
+        "search_tree": "program query picks", "accepts_tree": "program query tree",
+        "tree_answers": "program query tree",
+    },
+    "hornbook.instructions": {"reads": "instruction", "writes": "instruction", "successors": "code at"},
+    "hornbook.compiler": {"compile_clause": "head body", "compile_goal": "goal"},
+    "hornbook.decompiler": {"decompile": "code name arity"},
     "hornbook.tables": {
         "table_order": "left right", "tables": "program query", "table_answers": "program query",
         "closed": "program listed", "reason": "program query call answer",
@@ -48,12 +55,17 @@ FUNCTIONS = {
 NUMBERS = {
     ("hornbook.unify", "MOST_NODES"): 200, ("hornbook.derivations", "MOST_DEPTH"): 60,
     ("hornbook.tables", "MOST_CALLS"): 40, ("hornbook.tables", "MOST_ANSWERS"): 200,
+    ("hornbook.trees", "MOST_TREE"): 400, ("hornbook.instructions", "MOST_REGISTERS"): 400,
 }
 METHODS = {
     ("hornbook.program", "Program"): {
         "__init__": "self clauses dynamic", "clauses": "self", "predicate": "self name arity",
         "with_clause": "self clause first:False", "without": "self name arity position",
         "is_dynamic": "self name arity",
+    },
+    ("hornbook.cells", "Heap"): {
+        "__init__": "self", "store": "self term places", "load": "self cell", "unify": "self left right",
+        "size": "self", "trail_size": "self", "cut": "self size trail_size", "protect": "self size", "cells": "self",
     },
     ("hornbook.search", "Search"): {
         "__init__": "self program query", "step": "self", "run": "self steps", "ended": "self", "program": "self",
