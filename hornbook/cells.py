@@ -81,6 +81,13 @@ class Heap:
             cell = held
         return cell
 
+    def node_of(self, cell):
+        """Return the first node of the term of a cell, or None for a variable."""
+        cell = self.follow(cell)
+        if is_compound(cell):
+            return self._cells[cell[1]]
+        return None if is_reference(cell) else cell
+
     def store(self, term, places):
         """Store a term and return its cell; `places` has the cells of variables, new ones are added."""
         cells = self._cells

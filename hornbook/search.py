@@ -1,18 +1,16 @@
 """The meaning of a program: the search of a query, step by step."""
 
+from hornbook.calls import called_goal
 from hornbook.errors import TooLarge
-from hornbook.faults import existence_error, indicator, instantiation_error, kind_error, representation_error
+from hornbook.faults import existence_error, indicator, instantiation_error
 from hornbook.linked import Linked, instantiated, most_nodes
 from hornbook.primitives import perform
 from hornbook.program import TRUE, goal_form, is_built_in, is_control
+from hornbook.steps import CONDITION, FAIL
 from hornbook.terms import (
-    MOST_ARITY, arity_of, compound, is_integer, is_variable, list_term, next_number, parts, renumber,
-    renumber_together, variable, variables,
+    compound, is_variable, list_term, next_number, parts, renumber, renumber_together, variable, variables,
 )
 from hornbook.unify import MOST_NODES, apply, unify
-
-FAIL = (("f", "fail", 0),)
-CONDITION_SYMBOL = ("f", "->", 2)
 
 
 def goal_item(goal, level, rest):
@@ -159,7 +157,7 @@ class Search:
 
     def _disjunction(self, left, right, level, rest):
         """Call a disjunction, which may be an if-then-else."""
-        if left[0] == CONDITION_SYMBOL:
+        if left[0] == CONDITION:
             words = parts(left)
             self._condition(words[0], words[1], right, level, rest)
         else:
@@ -168,18 +166,11 @@ class Search:
 
     def _call_with(self, goal, words, rest):
         """Call the first argument of a goal of call with the other ones added at its end."""
-        node = words[0][0]
-        if is_integer(node):
-            self._raise(kind_error("callable", words[0]), goal, rest)
-        elif is_variable(node):
-            self._raise(instantiation_error(), goal, rest)
-        elif arity_of(node) + len(words) - 1 > MOST_ARITY:
-            self._raise(representation_error("arity"), goal, rest)
+        error, called = called_goal(words)
+        if error is not None:
+            self._raise(error, goal, rest)
         else:
-            nodes = [("f", node[1], node[2] + len(words) - 1), *words[0][1:]]
-            for word in words[1:]:
-                nodes.extend(word)
-            self._items = goal_item(goal_form(tuple(nodes)), len(self._choices), rest)
+            self._items = goal_item(called, len(self._choices), rest)
 
     def _built_in(self, goal, rest):
         """Call a built-in predicate."""

@@ -239,3 +239,83 @@ def renumbered(terms):
         found.append(tuple(("v", names.setdefault(node, len(names))) if isinstance(node, tuple) and node[0] == "v"
                            else node for node in term))
     return found
+
+
+def random_argument(source, inner=1):
+    """A small term over the variables 0 to 3."""
+    kind = source.randrange(9 if inner else 6)
+    if kind < 3:
+        return v(source.randrange(4))
+    if kind < 6:
+        return [a("x"), a("y"), i(1)][kind - 3]
+    return [f("s", random_argument(source, 0)), f("t", random_argument(source, 0), random_argument(source, 0)),
+            items(random_argument(source, 0), random_argument(source, 0))][kind - 6]
+
+
+def random_built_in(source):
+    """A goal of a built-in predicate that does not change the program."""
+    def argument():
+        return random_argument(source)
+
+    name, arity = source.choice(BUILT_IN)
+    if name in ("asserta", "assertz", "retract", "tabled", "solve"):
+        return source.choice((f("tabled", f(source.choice("pqr"), argument())), read(
+            "solve([A, B], [A in 1 .. 3, B in 1 .. 2, A < B])")))
+    if name in ("is", "=:=", "<", "=<"):
+        return f(name, source.choice((i(1), argument())), f("+", i(source.randrange(3)), source.choice((i(1), argument()))))
+    if name == "arg":
+        return f(name, source.choice((i(1), i(2), argument())), argument(), argument())
+    return f(name, *[argument() for _ in range(arity)])
+
+
+def random_prolog_goal(source, depth, *, calm=False):
+    """A goal with every construct; a calm one seldom raises an error and changes nothing."""
+    def argument():
+        return random_argument(source)
+
+    kind = source.randrange(22 + 18 * (depth > 0))
+    if kind < 8:
+        return f(source.choice("pqr"), argument())
+    if kind < 11:
+        return f("w", argument(), argument())
+    if kind < 14:
+        return f("=", v(source.randrange(4)), argument())
+    if kind < 17:
+        return a(("!", "true", "fail")[kind - 14])
+    if kind < 22:
+        if calm:
+            return f(source.choice(("w", "copy_term")), argument(), v(source.randrange(4)))
+        return source.choice((f("write", argument()), v(source.randrange(4)), random_built_in(source)))
+    left = random_prolog_goal(source, depth - 1, calm=calm)
+    if kind < 24:
+        return f(source.choice(("\\+", "call")), left)
+    if kind == 24:
+        return f("call", a(source.choice("pqr")), argument())
+    if kind < 27:
+        return f("findall", argument(), left, argument())
+    if kind == 27:
+        return f("throw", argument())
+    if kind == 28 and not calm:
+        return f(source.choice(("assertz", "asserta", "retract")), f(source.choice("pq"), argument()))
+    right = random_prolog_goal(source, depth - 1, calm=calm)
+    if kind < 31:
+        return f("catch", left, v(source.randrange(4)) if calm else argument(), right)
+    if kind < 33:
+        return f(";", f("->", left, right), random_prolog_goal(source, depth - 1, calm=calm))
+    return f(source.choice((",", ",", ",", ",", ";", "->")), left, right)
+
+
+def random_prolog_program(source, *, calm=False):
+    """Clauses and dynamic indicators over p/1, q/1, r/1 and w/2."""
+    if calm:
+        found = clauses("p(x). p(y). p(A). p(s(A)) :- p(A). w(A, A). w(x, B). w(s(A), t(A, B)) :- r(B). w(A, B) :- r(A), "
+                        "r(B). r(x). r(A).")
+        for _ in range(4):
+            head = f("q", source.choice((v(0), v(0), a("x"), f("s", v(0)), f("t", v(0), v(1)))))
+            found.append(f(":-", head, random_prolog_goal(source, 3, calm=True)))
+        source.shuffle(found)
+        return found, []
+    heads = [f(source.choice("pqr"), source.choice((v(0), a("x"), a("y"), f("s", v(0)), i(1)))) for _ in range(6)]
+    heads += [f("w", random_argument(source), random_argument(source)) for _ in range(2)]
+    found = [f(":-", head, random_prolog_goal(source, source.randrange(4))) for head in heads]
+    return found, [("p", 1)] if source.random() < 0.3 else [("p", 1), ("q", 1), ("r", 1), ("w", 2)]

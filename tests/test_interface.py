@@ -51,6 +51,9 @@ FUNCTIONS = {
         "satisfies": "domains constraints chosen", "solutions": "domains constraints most:None",
     },
     "hornbook.primitives": {"perform": "goal first program"},
+    "hornbook.indexing": {"key": "term", "candidates": "clauses arguments plan", "best_plan": "clauses"},
+    "hornbook.collector": {"reachable": "cells roots", "slide": "cells roots"},
+    "hornbook.updates": {"play": "database updates"},
 }
 NUMBERS = {
     ("hornbook.unify", "MOST_NODES"): 200, ("hornbook.derivations", "MOST_DEPTH"): 60,
@@ -70,6 +73,19 @@ METHODS = {
     ("hornbook.search", "Search"): {
         "__init__": "self program query", "step": "self", "run": "self steps", "ended": "self", "program": "self",
         "depth": "self",
+    },
+    ("hornbook.machine", "Machine"): {
+        "__init__": "self program query plan:(0,) collect_at:()", "step": "self", "run": "self instructions",
+        "ended": "self", "program": "self", "at_call": "self", "view": "self", "sizes": "self",
+    },
+    ("hornbook.indexing", "Index"): {
+        "__init__": "self clauses argument", "find": "self term", "add_first": "self clause", "add_last": "self clause",
+        "remove_at": "self position",
+    },
+    ("hornbook.database", "Database"): {
+        "__init__": "self", "add": "self clause first:False", "erase": "self number",
+        "clauses": "self name arity at:None", "predicates": "self", "open_call": "self name arity erasing:False",
+        "next_clause": "self call", "close_call": "self call", "sweep": "self", "stored": "self", "twin": "self",
     },
 }
 
@@ -109,6 +125,10 @@ class Interface(unittest.TestCase):
                 with self.subTest(f"{class_name}.{name}"):
                     self.assertIn(name, vars(found))
                     self.assertEqual(shape(vars(found)[name]), expected)
+
+    def test_field_of_a_database(self):
+        database = importlib.import_module("hornbook.database").Database()
+        self.assertEqual(vars(database)["generation"], 0)
 
     def test_numbers(self):
         for (module_name, name), expected in NUMBERS.items():

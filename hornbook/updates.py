@@ -1,0 +1,36 @@
+"""Playing updates of a database."""
+
+from hornbook.errors import BadClause, Closed
+
+
+def result_of(database, update):
+    """Perform an update, and return its result."""
+    word = update[0]
+    if word == "add":
+        return database.add(update[1], first=update[2])
+    if word == "erase":
+        return database.erase(update[1])
+    if word == "open":
+        return database.open_call(update[1], update[2], erasing=update[3])
+    if word == "next":
+        return database.next_clause(update[1])
+    if word == "close":
+        return database.close_call(update[1])
+    return database.sweep()
+
+
+def play(database, updates):
+    """Return the list of the results of updates, performed one after the other.
+
+    No function changes its arguments, so that they are performed in a twin of the database.
+    """
+    twin = database.twin()
+    results = []
+    for update in updates:
+        try:
+            results.append(result_of(twin, update))
+        except Closed:
+            results.append("Closed")
+        except BadClause:
+            results.append("BadClause")
+    return results
