@@ -30,7 +30,7 @@ def get_structure(state, instruction):
     if cell[0] == "ref":
         state.reading = None
         state.target = cell
-        state.built = ("str", state.heap.push(("f", name, arity)))
+        state.built = ("str", state.heap.push_cell(("f", name, arity)))
         state.missing = arity
         return True
     state.reading = cell[1] + 1
@@ -54,7 +54,7 @@ def unify_variable(state, instruction):
     if state.reading is not None:
         state.put(instruction[1], read_part(state))
         return True
-    state.put(instruction[1], state.heap.new_variable())
+    state.put(instruction[1], state.heap.push_variable())
     return end_part(state)
 
 
@@ -63,7 +63,7 @@ def unify_value(state, instruction):
     cell = state.fetch(instruction[1])
     if state.reading is not None:
         return state.heap.unify(read_part(state), cell)
-    state.heap.push(cell)
+    state.heap.push_cell(cell)
     return end_part(state)
 
 
@@ -71,7 +71,7 @@ def unify_constant(state, instruction):
     """Unify an argument with a constant."""
     if state.reading is not None:
         return state.heap.unify(read_part(state), instruction[1])
-    state.heap.push(instruction[1])
+    state.heap.push_cell(instruction[1])
     return end_part(state)
 
 
@@ -98,25 +98,25 @@ def put_constant(state, instruction):
 def put_structure(state, instruction):
     """Begin to build a compound term in a location."""
     _, name, arity, location = instruction
-    state.put(location, ("str", state.heap.push(("f", name, arity))))
+    state.put(location, ("str", state.heap.push_cell(("f", name, arity))))
     return True
 
 
 def set_variable(state, instruction):
     """Make a new variable as an argument, and store it in a location."""
-    state.put(instruction[1], state.heap.new_variable())
+    state.put(instruction[1], state.heap.push_variable())
     return True
 
 
 def set_value(state, instruction):
     """Take a location as an argument."""
-    state.heap.push(state.fetch(instruction[1]))
+    state.heap.push_cell(state.fetch(instruction[1]))
     return True
 
 
 def set_constant(state, instruction):
     """Take a constant as an argument."""
-    state.heap.push(instruction[1])
+    state.heap.push_cell(instruction[1])
     return True
 
 
@@ -146,14 +146,14 @@ def mark(state, instruction):
 
 def commit(state, instruction):
     """Remove all choice points but as many as a location says."""
-    state.cut(state.fetch(instruction[1]))
+    state.leave_choices(state.fetch(instruction[1]))
     return True
 
 
 def cut(state, instruction):
     """Remove all choice points but as many as there were when the code was called."""
     framed = state.code[0][0] == "allocate"
-    state.cut(state.frames[state.frame].level if framed else state.level)
+    state.leave_choices(state.frames[state.frame].level if framed else state.level)
     return True
 
 

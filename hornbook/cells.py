@@ -18,12 +18,18 @@ def is_compound(cell):
 
 
 class Heap:
-    """A list of cells, and the trail: the indexes of the variables to be made unbound again."""
+    """A list of cells, and the trail: the indexes of the variables to be made unbound again.
+
+    `_newest` is the index of the last variable that was made by itself, and `_quiet` is True
+    as long as no variable was bound behind it: until then no cell before it refers to it.
+    """
 
     def __init__(self):
         self._cells = []
         self._trail = []
         self._protected = 0
+        self._newest = 0
+        self._quiet = False
 
     def size(self):
         """Return the number of cells."""
@@ -45,6 +51,7 @@ class Heap:
         """Put other cells and another trail in place of all that there are."""
         self._cells = list(cells)
         self._trail = list(trail)
+        self._quiet = False
 
     def cut(self, size, trail_size):
         """Make the variables of the trail from a size on unbound, and cut both lists."""
@@ -52,18 +59,25 @@ class Heap:
             self._cells[index] = ("ref", index)
         del self._trail[trail_size:]
         del self._cells[size:]
+        self._quiet = False
 
     def protect(self, size):
         """Let the variables with an index less than size be added to the trail when they are bound."""
         self._protected = size
 
     def new_variable(self):
+        """Add an unbound variable that is no argument of a compound term, and return it."""
+        self._newest = len(self._cells)
+        self._quiet = True
+        return self.push_variable()
+
+    def push_variable(self):
         """Add an unbound variable, and return it."""
         cell = ("ref", len(self._cells))
         self._cells.append(cell)
         return cell
 
-    def push(self, cell):
+    def push_cell(self, cell):
         """Add a cell, and return its index."""
         self._cells.append(cell)
         return len(self._cells) - 1
@@ -74,7 +88,7 @@ class Heap:
 
     def follow(self, cell):
         """Return a cell dereferenced."""
-        while is_reference(cell):
+        while isinstance(cell, tuple) and cell[0] == "ref":
             held = self._cells[cell[1]]
             if held == cell:
                 return cell
@@ -139,22 +153,30 @@ class Heap:
         return tuple(nodes)
 
     def occurs(self, index, cell):
-        """Tell whether a variable occurs in a term."""
+        """Tell whether an unbound variable occurs in a term."""
+        cells = self._cells
+        # Before this index no cell needs to be looked at.
+        floor = index if self._quiet and index == self._newest else 0
         seen = {}
         waiting = [cell]
         while len(waiting) > 0:
-            cell = self.follow(waiting.pop())
-            if cell == ("ref", index):
-                return True
-            if is_compound(cell) and cell[1] not in seen:
+            cell = waiting.pop()
+            if not isinstance(cell, tuple) or cell[0] == "f" or cell[1] < floor:
+                continue
+            if cell[0] == "ref":
+                if cell[1] == index:
+                    return True
+                if cells[cell[1]] != cell:
+                    waiting.append(cells[cell[1]])
+            elif cell[1] not in seen:
                 seen[cell[1]] = True
-                arity = self._cells[cell[1]][2]
-                waiting.extend(self._cells[cell[1] + 1:cell[1] + arity + 1])
+                waiting.extend(cells[cell[1] + 1:cell[1] + cells[cell[1]][2] + 1])
         return False
 
     def bind(self, index, cell):
         """Bind an unbound variable to a cell."""
         self._cells[index] = cell
+        self._quiet = False
         if index < self._protected:
             self._trail.append(index)
 

@@ -91,4 +91,4 @@ def collect(state):
     for choice in state.choices:
         choice.heap_length = heap_sizes[choice.heap_length]
         choice.trail_length = trail_sizes[choice.trail_length]
-    state.protect()
+    state.protect_older()

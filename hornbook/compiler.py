@@ -27,7 +27,7 @@ class Coder:
         self.code = []
         self.labels = {}
 
-    def add(self, *instruction):
+    def emit(self, *instruction):
         """Add an instruction."""
         self.code.append(instruction)
 
@@ -58,7 +58,7 @@ class Coder:
         word = words[1] if number in self.known else words[0]
         location = self.location(number)
         self.known[number] = True
-        self.add(word, location, *more)
+        self.emit(word, location, *more)
 
     def get_head(self, head):
         """Add the instructions that unify the arguments of a call with those of the head."""
@@ -67,7 +67,7 @@ class Coder:
             if arity_of(node) > 0:
                 self.get_structures(term, place)
             elif not is_variable(node):
-                self.add("get_constant", node, place)
+                self.emit("get_constant", node, place)
             # A variable that occurs nowhere else is whatever the argument is.
             elif len(self.layout.places[node[1]]) > 1:
                 self.add_variable(("get_variable", "get_value"), node[1], place)
@@ -77,15 +77,15 @@ class Coder:
         waiting = [(term, place)]
         while len(waiting) > 0:
             whole, number = waiting.pop(0)
-            self.add("get_structure", whole[0][1], whole[0][2], number)
+            self.emit("get_structure", whole[0][1], whole[0][2], number)
             for part in parts(whole):
                 if is_variable(part[0]):
                     self.add_variable(("unify_variable", "unify_value"), part[0][1])
                 elif arity_of(part[0]) == 0:
-                    self.add("unify_constant", part[0])
+                    self.emit("unify_constant", part[0])
                 else:
                     inner = self.new_register()
-                    self.add("unify_variable", inner)
+                    self.emit("unify_variable", inner)
                     waiting.append((part, inner[1]))
 
     def put_argument(self, term, place):
@@ -95,7 +95,7 @@ class Coder:
         elif is_variable(term[0]):
             self.add_variable(("put_variable", "put_value"), term[0][1], place)
         else:
-            self.add("put_constant", term[0], place)
+            self.emit("put_constant", term[0], place)
 
     def put_structures(self, term, target):
         """Add the instructions that store a compound term in a location, its inner terms first."""
@@ -107,7 +107,7 @@ class Coder:
                 made.append(node)
                 continue
             location = target if at == 0 else self.new_register()
-            self.add("put_structure", node[1], node[2], location)
+            self.emit("put_structure", node[1], node[2], location)
             for _ in range(node[2]):
                 self.set_part(made.pop())
             made.append(location)
@@ -117,41 +117,41 @@ class Coder:
         if is_variable(part):
             self.add_variable(("set_variable", "set_value"), part[1])
         elif isinstance(part, tuple) and part[0] == "x":
-            self.add("set_value", part)
+            self.emit("set_value", part)
         else:
-            self.add("set_constant", part)
+            self.emit("set_constant", part)
 
     def leave(self):
         """Add the instruction that leaves the frame, if there is one."""
         if self.layout.framed:
-            self.add("deallocate")
+            self.emit("deallocate")
 
     def end_part(self, at):
         """End the code if a part that ends at this index is the last thing to do and has not left yet."""
         if not self.layout.is_left(at):
             self.leave()
-            self.add("proceed")
+            self.emit("proceed")
 
-    def call(self, at, goal):
+    def emit_call(self, at, goal):
         """Add the instructions that call a goal."""
         for place, term in enumerate(parts(goal)):
             self.put_argument(term, place)
         _, name, arity = goal[0]
         if self.layout.is_over(at + 1):
             self.leave()
-            self.add("execute", name, arity)
+            self.emit("execute", name, arity)
         else:
-            self.add("call", name, arity, 0)
+            self.emit("call", name, arity, 0)
         self.new_chunk()
 
-    def cut(self):
+    def emit_cut(self):
         """Add the instruction for a cut."""
         if len(self.cut_levels) == 0:
-            self.add("cut")
+            self.emit("cut")
         else:
-            self.add("commit", self.cut_levels[-1])
+            self.emit("commit", self.cut_levels[-1])
 
-    def begin(self, at):
+    def begin_construct(self, at):
         """Add the instructions with which a construct begins."""
         self.new_chunk()
         for number in self.layout.shared(at):
@@ -160,17 +160,17 @@ class Coder:
         self.saved.append((at, dict(self.known)))
         is_marked = at in self.layout.marks
         if is_marked:
-            self.add("mark", self.layout.marks[at])
-        self.add("try_else", self.layout.turns[at])
+            self.emit("mark", self.layout.marks[at])
+        self.emit("try_else", self.layout.turns[at])
         if at in self.layout.levels:
-            self.add("mark", self.layout.levels[at])
+            self.emit("mark", self.layout.levels[at])
         if is_marked:
             self.cut_levels.append(self.layout.levels.get(at))
 
-    def commit(self):
+    def emit_commit(self):
         """Add the instruction behind the condition or the negated goal of the innermost construct."""
         self.cut_levels.pop()
-        self.add("commit", self.layout.marks[self.saved[-1][0]])
+        self.emit("commit", self.layout.marks[self.saved[-1][0]])
         self.new_chunk()
 
     def end_first_part(self, at):
@@ -178,7 +178,7 @@ class Coder:
         if self.layout.is_over(at):
             self.end_part(at)
         else:
-            self.add("jump", self.layout.ends[at])
+            self.emit("jump", self.layout.ends[at])
         self.place_label(at)
         self.known = dict(self.saved[-1][1])
         self.new_chunk()
@@ -186,8 +186,8 @@ class Coder:
     def end_construct(self, at, kind):
         """End the innermost construct."""
         if kind == "not":
-            self.commit()
-            self.add("fail")
+            self.emit_commit()
+            self.emit("fail")
         elif self.layout.is_over(at):
             self.end_part(at)
         self.place_label(at)
@@ -199,24 +199,24 @@ class Coder:
         step = self.layout.steps[at]
         word = step[0]
         if word == "call":
-            self.call(at, step[1])
+            self.emit_call(at, step[1])
         elif word == "cut":
-            self.cut()
+            self.emit_cut()
         elif word == "fail":
-            self.add("fail")
+            self.emit("fail")
         elif word == "then":
-            self.commit()
+            self.emit_commit()
         elif word == "end":
             self.end_construct(at, step[1])
         elif word in MIDDLE:
             self.end_first_part(at)
         else:
-            self.begin(at)
+            self.begin_construct(at)
 
     def add_clause(self, head):
         """Add the instructions of the whole clause."""
         if self.layout.framed:
-            self.add("allocate", self.layout.slot_count)
+            self.emit("allocate", self.layout.slot_count)
         self.get_head(head)
         for at in range(len(self.layout.steps)):
             self.add_step(at)
@@ -267,8 +267,9 @@ def with_call_sizes(code):
             held[label] |= mask
         if instruction[0] == "call":
             needed = mask | live[at + 1]
-            instruction = (*instruction[:3], needed.bit_length())
-        sized.append(instruction)
+            sized.append((*instruction[:3], needed.bit_length()))
+        else:
+            sized.append(instruction)
     return tuple(sized)
 
 

@@ -63,7 +63,7 @@ class Reading:
             self.held[location] = self.new_number(None)
         return self.held_at(location)
 
-    def term(self, number):
+    def term_with(self, number):
         """Return the term with a number."""
         nodes = []
         waiting = [number]
@@ -143,7 +143,7 @@ class Reading:
         """Read the call of a goal."""
         nodes = [("f", name, arity)]
         for place in range(arity):
-            nodes.extend(self.term(self.held_at(("x", place))))
+            nodes.extend(self.term_with(self.held_at(("x", place))))
         self.steps.append(("call", tuple(nodes)))
 
     def read_get(self, instruction):
@@ -189,6 +189,6 @@ def decompile(code, name, arity):
     reading = Reading(code, arity)
     nodes = [("f", name, arity)]
     for number in reading.arguments:
-        nodes.extend(reading.term(number))
+        nodes.extend(reading.term_with(number))
     head, body = renumber_together([nodes, joined(step_goals(reading.steps))])
     return head, body

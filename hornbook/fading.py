@@ -52,7 +52,7 @@ class Fading:
             self.names[index] = self.new_name()
         return self.names[index]
 
-    def part(self, index):
+    def part_at(self, index):
         """Return the cell that stands for the argument with an index, a reference if it remains."""
         return ("ref", index) if index in self.moves else self.old_cells[index]
 
@@ -75,7 +75,7 @@ class Fading:
             elif is_compound(cell):
                 symbol = self.old_cells[cell[1]]
                 nodes.append(symbol)
-                waiting.extend([self.part(cell[1] + place) for place in range(symbol[2], 0, -1)])
+                waiting.extend([self.part_at(cell[1] + place) for place in range(symbol[2], 0, -1)])
             else:
                 nodes.append(cell)
         return nodes

@@ -64,9 +64,9 @@ class Machine:
         self._state.return_to((("call", "answer", 0, len(numbers)), ("answer",)), 1)
         if len(goal_form(query)) > MOST_NODES:
             self._end(("limit",))
-            return
-        code, order = compile_goal(query)
-        self._state.enter(code, [cells[number] for number in order])
+        else:
+            code, order = compile_goal(query)
+            self._state.enter(code, [cells[number] for number in order])
 
     def step(self):
         """Execute one instruction, if the machine has not ended."""
@@ -116,10 +116,16 @@ class Machine:
         return None if is_control(name, arity) or is_built_in(name, arity) else (name, arity)
 
     def view(self):
-        """Return the items that the search has at this call, or None if there is no call."""
+        """Return the items that the search has at this call, or None if there is no call.
+
+        It is None also where a term has too many cells to be loaded: there the search has ended.
+        """
         if self.at_call() is None:
             return None
-        return view_of(self._state, self._state.code[self._state.at])
+        try:
+            return view_of(self._state, self._state.code[self._state.at])
+        except TooLarge:
+            return None
 
     def sizes(self):
         """Return the numbers of cells, entries of the trail, frames and choice points."""
@@ -140,9 +146,9 @@ class Machine:
             return action(state, instruction)
         if word == "call":
             state.return_to(state.code, state.at)
-            return self._call(instruction[1], instruction[2])
+            return self._call_by_name(instruction[1], instruction[2])
         if word == "execute":
-            return self._call(instruction[1], instruction[2])
+            return self._call_by_name(instruction[1], instruction[2])
         if word == "exit":
             choice = state.choices[instruction[1]]
             state.code, state.at = choice.code, choice.label
@@ -151,11 +157,12 @@ class Machine:
             choice = state.choices[instruction[1]]
             choice.rest.append(renumber(checked(state.heap.load(choice.held[0]))))
             return False
-        answer = [state.heap.load(cell) for cell in state.frames[state.frame].slots]
+        # The search has ended before an answer with a larger term.
+        answer = [checked(state.heap.load(cell)) for cell in state.frames[state.frame].slots]
         self._events.append(("answer", renumber_together(answer)))
         return False
 
-    def _call(self, name, arity):
+    def _call_by_name(self, name, arity):
         """Call a predicate or a control construct, and tell whether it succeeds."""
         state = self._state
         state.level = len(state.choices)
@@ -166,7 +173,7 @@ class Machine:
             return self._call_built_in(name, arity)
         entries = self._predicate(name, arity)
         if len(entries) == 0 and not self._program.is_dynamic(name, arity):
-            return self._raise(existence_error(name, arity), name, arity)
+            return self._raise_error(existence_error(name, arity), name, arity)
         wanted = {index: state.heap.node_of(state.registers[index]) for index in self._plan if index < arity}
         codes = [entry.code for entry in entries if is_candidate(entry.first_nodes, wanted)]
         if len(codes) == 0:
@@ -201,12 +208,12 @@ class Machine:
         cells = state.registers
         if name == "throw":
             if is_variable(words[0][0]):
-                return self._raise(instantiation_error(), name, arity)
-            return self._throw(words[0])
+                return self._raise_error(instantiation_error(), name, arity)
+            return self._throw_ball(words[0])
         if name == "call":
             error, goal = called_goal(words)
             if error is not None:
-                return self._raise(error, name, arity)
+                return self._raise_error(error, name, arity)
             return self._enter_goal(goal)
         if name == "catch":
             return self._enter_marked("catch", words[0], "exit", [cells[1], cells[2]])
@@ -232,7 +239,7 @@ class Machine:
         result = perform(self._goal(name, arity), state.heap.size(), self._program)
         word = result[0]
         if word == "raise":
-            return self._raise(result[1], name, arity)
+            return self._raise_error(result[1], name, arity)
         if word == "alternatives":
             cell = state.heap.store(result[1], {number: ("ref", number) for number in variables(result[1])})
             return len(result[2]) > 0 and self._try_terms(cell, result[2][::-1])
@@ -240,7 +247,7 @@ class Machine:
             self._events.append(result)
         elif word == "change":
             self._change(result[1])
-        if word == "fail" or (word in ("unify", "change") and not self._unify(result[-3], result[-2])):
+        if word == "fail" or (word in ("unify", "change") and not self._unify_terms(result[-3], result[-2])):
             return False
         state.proceed()
         return True
@@ -254,7 +261,7 @@ class Machine:
             present = {pair: True for pair in program.clauses()}
             self._entries = {pair: entry for pair, entry in self._entries.items() if pair in present}
 
-    def _unify(self, left, right):
+    def _unify_terms(self, left, right):
         """Unify terms; their variables with a number below the size of the heap are its variables."""
         heap = self._state.heap
         unifier = unify(left, right)
@@ -281,7 +288,7 @@ class Machine:
         while len(state.choices) > 0:
             choice = state.choices[-1]
             state.undo(choice)
-            state.cut(len(state.choices) - 1)
+            state.leave_choices(len(state.choices) - 1)
             state.return_to(choice.code, choice.label)
             state.level = len(state.choices)
             if choice.kind == "label":
@@ -312,13 +319,13 @@ class Machine:
             found.append(renumber(term, first))
             first += len(variables(term))
         self._state.proceed()
-        return self._unify(checked(list_term(found)), heap.load(choice.held[1]))
+        return self._unify_terms(checked(list_term(found)), heap.load(choice.held[1]))
 
-    def _raise(self, error, name, arity):
+    def _raise_error(self, error, name, arity):
         """Throw the term for an error of a goal."""
-        return self._throw(compound("error", error, indicator(name, arity)))
+        return self._throw_ball(compound("error", error, indicator(name, arity)))
 
-    def _throw(self, ball):
+    def _throw_ball(self, ball):
         """Throw a term."""
         state = self._state
         checked(ball)
@@ -326,8 +333,8 @@ class Machine:
         for index in [code[label][1] for code, label, _ in places if code[label][0] == "exit"]:
             choice = state.choices[index]
             state.undo(choice)
-            state.cut(index)
-            if self._unify(state.heap.load(choice.held[0]), renumber(ball, state.heap.size())):
+            state.leave_choices(index)
+            if self._unify_terms(state.heap.load(choice.held[0]), renumber(ball, state.heap.size())):
                 state.return_to(choice.code, choice.label)
                 state.level = index
                 return self._enter_goal(state.heap.load(choice.held[1]))

@@ -129,17 +129,17 @@ class State:
         choice.trail_length = self.heap.trail_size()
         choice.slot_writes = len(self.slot_trail)
         self.choices.append(choice)
-        self.protect()
+        self.protect_older()
 
-    def protect(self):
+    def protect_older(self):
         """Let the variables that are older than the highest choice point be trailed."""
         self.heap.protect(self.choices[-1].heap_length if len(self.choices) > 0 else 0)
 
-    def cut(self, count):
+    def leave_choices(self, count):
         """Remove all choice points but the lowest ones, so many."""
         if count < len(self.choices):
             del self.choices[count:]
-            self.protect()
+            self.protect_older()
 
     def undo(self, choice):
         """Bring back what a choice point remembers."""

@@ -186,7 +186,8 @@ def random_goal(source):
             return a("xy"[kind - 4])
         if kind == 6 or depth > 1:
             return i(source.randrange(2))
-        return f("s", argument(depth + 1)) if source.random() < 0.6 else f("t", argument(depth + 1), argument(depth + 1))
+        return f("s", argument(depth + 1)) if source.random() < 0.6 else f("t", argument(depth + 1),
+            argument(depth + 1))
 
     name, arity = source.choice((("p", 1), ("q", 2), ("r", 0), ("p", 1), ("q", 2)))
     return f(name, *[argument(0) for _ in range(arity)])
@@ -262,7 +263,8 @@ def random_built_in(source):
         return source.choice((f("tabled", f(source.choice("pqr"), argument())), read(
             "solve([A, B], [A in 1 .. 3, B in 1 .. 2, A < B])")))
     if name in ("is", "=:=", "<", "=<"):
-        return f(name, source.choice((i(1), argument())), f("+", i(source.randrange(3)), source.choice((i(1), argument()))))
+        return f(name, source.choice((i(1), argument())), f("+", i(source.randrange(3)),
+            source.choice((i(1), argument()))))
     if name == "arg":
         return f(name, source.choice((i(1), i(2), argument())), argument(), argument())
     return f(name, *[argument() for _ in range(arity)])
@@ -308,7 +310,8 @@ def random_prolog_goal(source, depth, *, calm=False):
 def random_prolog_program(source, *, calm=False):
     """Clauses and dynamic indicators over p/1, q/1, r/1 and w/2."""
     if calm:
-        found = clauses("p(x). p(y). p(A). p(s(A)) :- p(A). w(A, A). w(x, B). w(s(A), t(A, B)) :- r(B). w(A, B) :- r(A), "
+        found = clauses("p(x). p(y). p(A). p(s(A)) :- p(A). w(A, A). w(x, B). w(s(A), t(A, B)) :- r(B). w(A, "
+            "B) :- r(A), "
                         "r(B). r(x). r(A).")
         for _ in range(4):
             head = f("q", source.choice((v(0), v(0), a("x"), f("s", v(0)), f("t", v(0), v(1)))))

@@ -81,7 +81,8 @@ class Storing(Cells):
             self.stored(term, symbols + len(term) - 1 if symbols else len(variables(term)))
 
     def test_nested_deep(self):
-        for term in (chain("s", 990, v(0)), chain("s", 990, i(3)), left_chain("t", 495, v(0)), right_chain("t", 495, v(0)),
+        for term in (chain("s", 990, v(0)), chain("s", 990, i(3)), left_chain("t", 495, v(0)),
+            right_chain("t", 495, v(0)),
                      items(*[v(k) for k in range(490)])):
             heap = Heap()
             cell = heap.store(term, {})
@@ -143,7 +144,8 @@ class Unifying(Cells):
                 (f("f", i(1)), f("f", i(1), i(1)), False), (f("f", i(1)), f("f", i(2)), False),
                 (v(0), i(1), True), (v(0), a("a"), True), (v(0), f("f", v(1)), True), (v(0), v(1), True),
                 (v(0), v(0), True), (v(0), f("f", v(0)), False), (f("f", v(0), v(0)), f("f", i(1), i(2)), False),
-                (f("f", v(0), v(1)), f("f", v(1), i(2)), True), (f("f", v(0), v(1)), f("f", v(1), f("g", v(0))), False)):
+                (f("f", v(0), v(1)), f("f", v(1), i(2)), True), (f("f", v(0), v(1)), f("f", v(1), f("g", v(0))),
+                False)):
             for one, other in ((left, right), (right, left)):
                 heap, places = Heap(), {}
                 one, other = heap.store(one, places), heap.store(other, places)

@@ -427,7 +427,8 @@ class InPlace(unittest.TestCase):
         for name, arity in called:
             goal = f(name, *[v(k) for k in range(arity)])
             self.assertEqual(self.goals(compile_clause(a("p"), goal)), [(name, arity)])
-            self.assertEqual(self.goals(compile_clause(a("p"), f(",", a("q"), f("\\+", goal)))), [("q", 0), (name, arity)])
+            self.assertEqual(self.goals(compile_clause(a("p"), f(",", a("q"), f("\\+", goal)))),
+                [("q", 0), (name, arity)])
 
     def test_their_arguments_are_terms(self):
         for goal in ("call((a, b))", "findall(X, (a ; b), L)", "catch((a -> b), !, \\+ c)", "call(!, X)"):
@@ -518,7 +519,8 @@ class Effect(unittest.TestCase):
                 ("p(X) :- \\+ q(Y, 5), q(Y, X). q(1, 1). q(A, 2)", "p(2)"),
                 ("p(X) :- \\+ q(Y, 2), q(Y, X). q(1, 1). q(A, 2)", "p(2)"),
                 ("p(X) :- \\+ \\+ q(Y, 2), q(Y, X). q(1, 1). q(1, 2)", "p(2)"),
-                ("p(X) :- (q(Y, s(Z)) ; q(Z, s(Y))), (q(Y, W) -> q(W, Z) ; q(Z, W)), q(W, Y). q(1, A). q(A, 2)", "p(2)"),
+                ("p(X) :- (q(Y, s(Z)) ; q(Z, s(Y))), (q(Y, W) -> q(W, Z) ; q(Z, W)), q(W, Y). q(1, A). q(A, 2)",
+                "p(2)"),
                 ("p(X) :- (fail ; q(Y, Z)), (q(Z, Y), fail ; q(Y, Z)). q(1, A). q(A, 2)", "p(2)"),
                 ("p(X) :- ((q(Y, 1) ; q(1, Y)) -> q(Y, Z) ; q(Z, Y)), q(Z, X). q(1, A). q(A, 2)", "p(2)"),
                 ("p(X) :- q(s(Y), t(Y, Z)), q(t(Z, t(Y, W)), s(s(W))). q(A, B)", "p(2)")):
@@ -536,7 +538,8 @@ class Effect(unittest.TestCase):
     def test_drawn_programs_of_facts_and_one_rule(self):
         source = seeded(54)
         long = 0
-        facts = [(read(text), a("true")) for text in ("p(x)", "p(s(A))", "p(B)", "q(x, A)", "q(A, s(B))", "q(A, A)", "r")]
+        facts = [(read(text), a("true")) for text in ("p(x)", "p(s(A))", "p(B)", "q(x, A)", "q(A, s(B))", "q(A, A)",
+            "r")]
         for _ in range(400):
             clause = (f("h", *[v(k) for k in range(source.randrange(1, 4))]),
                       random_body(source, source.randrange(4, 16), random_goal))
@@ -647,7 +650,8 @@ class Properties(unittest.TestCase):
             self.assertNotIn("allocate", [instruction[0] for instruction in self.check_text(text)])
 
     def test_with_a_frame(self):
-        for text in ("p :- q, r", "p :- q, !", "p :- fail", "p :- q ; r", "p :- q -> r", "p :- \\+ q", "p :- q, true, r",
+        for text in ("p :- q, r", "p :- q, !", "p :- fail", "p :- q ; r", "p :- q -> r", "p :- \\+ q",
+            "p :- q, true, r",
                      "p(X) :- q(X), r(X)", "p :- q, fail", "p :- !, q, !", "p :- (q, true), !", "p :- true ; true",
                      "p :- true -> true", "p :- \\+ true", "p :- \\+ !"):
             self.assertEqual(self.check_text(text)[0][0], "allocate")

@@ -311,7 +311,8 @@ class Calls(unittest.TestCase):
 
     def test_numbers_of_calls(self):
         database = self.database(1)
-        self.assertEqual([database.open_call("p", 1), database.open_call("q", 2), database.open_call("p", 1, erasing=True)],
+        self.assertEqual([database.open_call("p", 1), database.open_call("q", 2),
+            database.open_call("p", 1, erasing=True)],
                          [0, 1, 2])
         database.close_call(1)
         self.assertEqual(database.open_call("p", 1), 3)
@@ -479,7 +480,8 @@ class Playing(unittest.TestCase):
 
     UPDATES = [
         ("add", a("p"), False), ("add", f(":-", a("p"), v(3)), True), ("open", "p", 0, False), ("add", v(0), False),
-        ("next", 0), ("erase", 0), ("erase", 0), ("next", 1), ("open", "p", 0, True), ("sweep",), ("next", 0), ("next", 0),
+        ("next", 0), ("erase", 0), ("erase", 0), ("next", 1), ("open", "p", 0, True), ("sweep",), ("next", 0),
+        ("next", 0),
         ("next", 0), ("close", 0), ("close", 1), ("close", -1), ("sweep",), ("add", i(3), True), ("add", a("q"), False)]
     RESULTS = [
         0, 1, 0, "BadClause", (1, f(":-", a("p"), v(0))), True, False, "Closed", 1, 0, (0, a("p")), None,
@@ -509,7 +511,8 @@ class Playing(unittest.TestCase):
         database.add(f("p", i(1)))
         call = database.open_call("p", 0)
         before = state_of(database)
-        updates = [("next", call), ("next", call), ("add", a("p"), False), ("erase", 1), ("open", "p", 1, False), ("next", 1)]
+        updates = [("next", call), ("next", call), ("add", a("p"), False), ("erase", 1), ("open", "p", 1, False),
+            ("next", 1)]
         for _ in range(2):
             self.assertEqual(play(database, updates), [(0, a("p")), None, 2, True, 1, None])
         self.assertEqual(state_of(database), before)

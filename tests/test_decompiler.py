@@ -35,9 +35,11 @@ class Reading(unittest.TestCase):
 
     def test_goals(self):
         for goal in ("q", "q(X)", "q(X, X)", "q(a, 3)", "q(f(X, Y), Y, [Y])", "q(f(f(g(X), 1)), h(Z, Z))", "q(_, f(_))",
-                     "q(A, B, C, D, E, F, G, H)", "X = f(X)", "write(a)", "findall(X, (p ; q, true), L)", "call((a, b), X)",
+                     "q(A, B, C, D, E, F, G, H)", "X = f(X)", "write(a)", "findall(X, (p ; q, true), L)",
+                     "call((a, b), X)",
                      "call(X, Y)", "catch(a, !, true)"):
-            for text in (f"p :- {goal}", f"p :- {goal}, r", f"p :- r, {goal}", f"p :- r, {goal}, s", f"p :- ({goal} ; r)",
+            for text in (f"p :- {goal}", f"p :- {goal}, r", f"p :- r, {goal}", f"p :- r, {goal}, s",
+                f"p :- ({goal} ; r)",
                          f"p :- ({goal} -> r ; s)", f"p :- \\+ {goal}", f"p(X) :- {goal}", f"p(f(Y), X) :- !, {goal}"):
                 self.check_text(text, text)
 
@@ -55,7 +57,8 @@ class Reading(unittest.TestCase):
                 ("p :- true, a", "p :- a"), ("p :- a, true", "p :- a"), ("p :- a, true, b", "p :- a, b"),
                 ("p :- (true, a, true), (true, b)", "p :- a, b"), ("p :- (true ; a)", "p :- (true ; a)"),
                 ("p :- (a ; true)", "p :- (a ; true)"), ("p :- (a ; true), b", "p :- (a ; true), b"),
-                ("p :- (true ; true)", "p :- (true ; true)"), ("p :- (true -> true ; true)", "p :- (true -> true ; true)"),
+                ("p :- (true ; true)", "p :- (true ; true)"), ("p :- (true -> true ; true)",
+                "p :- (true -> true ; true)"),
                 ("p :- \\+ true", "p :- \\+ true"), ("p :- \\+ (true, a)", "p :- \\+ a"),
                 ("p :- (a, true -> true, b ; true, c)", "p :- (a -> b ; c)"), ("p :- !, true", "p :- !"),
                 ("p :- (true, true ; a), true", "p :- (true ; a)"), ("p :- fail, true", "p :- fail")):
@@ -112,8 +115,10 @@ class Reading(unittest.TestCase):
             self.check_text(f"p(Y, X) :- d, {body}, e", f"p(Y, X) :- d, {body}, e")
 
     def test_variables(self):
-        for text in ("p(X, _) :- q(_, X)", "p(_) :- q, r", "p(X) :- q, r(_), s(X)", "p :- q(X), r(X)", "p :- q(X), r(Y), s(Y, X)",
-                     "p :- (q(X) ; r(X))", "p :- (q(X) ; r(X)), s(X)", "p :- (q(X) -> r(X) ; s(X))", "p :- \\+ q(X), r(X)",
+        for text in ("p(X, _) :- q(_, X)", "p(_) :- q, r", "p(X) :- q, r(_), s(X)", "p :- q(X), r(X)",
+            "p :- q(X), r(Y), s(Y, X)",
+                     "p :- (q(X) ; r(X))", "p :- (q(X) ; r(X)), s(X)", "p :- (q(X) -> r(X) ; s(X))",
+                     "p :- \\+ q(X), r(X)",
                      "p :- \\+ q(X), \\+ r(X)", "p(X) :- (q(Y) ; r(Y) ; s(X))", "p :- (q(X, Y) ; q(Y, X)), r(Y)",
                      "p :- (q(X) -> r ; s), t(X)", "p :- (q -> r(X) ; s), t(X)", "p :- (q(X), fail ; r(X))",
                      "p(X, Y) :- q(f(Z, Y), g(W)), r(W, Z, X)", "p(X, X, f(X)) :- q(X, g(X)), q(X, X)"):

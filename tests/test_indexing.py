@@ -45,7 +45,8 @@ class Keys(unittest.TestCase):
 
 class Candidates(unittest.TestCase):
 
-    CLAUSES = pairs("p(a, 1)", "p(X, 2) :- q", "p(b, Y)", "p(a, f(Z))", "p(f(a), f(a, b))", "p(1, 1)", "p(X, X)", "p(a, 1)")
+    CLAUSES = pairs("p(a, 1)", "p(X, 2) :- q", "p(b, Y)", "p(a, f(Z))", "p(f(a), f(a, b))", "p(1, 1)", "p(X, X)",
+        "p(a, 1)")
 
     def check(self, arguments, plan, expected):
         given = list(self.CLAUSES)
@@ -100,7 +101,8 @@ class BestPlan(unittest.TestCase):
         for texts, plan in (
                 ([], ()), (["p"], ()), (["p(X, Y)"], ()), (["p(X, X)", "p(Y, Z)"], ()), (["p(a, Y)"], (0,)),
                 (["p(X, a)"], (1,)), (["p(X, Y, f(X))", "p(1, Y, Z)"], (0, 2)), (["p(X, Y, Z) :- q(a, a, a)"], ()),
-                (["p(A, B, C, D, E, F, G, 8)", "p(1, B, C, D, E, F, G, H)", "p(A, B, C, f(Q), E, F, G, 7)"], (0, 3, 7))):
+                (["p(A, B, C, D, E, F, G, 8)", "p(1, B, C, D, E, F, G, H)", "p(A, B, C, f(Q), E, F, G, 7)"],
+                (0, 3, 7))):
             with self.subTest(texts):
                 self.assertEqual(best_plan(pairs(*texts)), plan)
                 self.assertIs(type(best_plan(pairs(*texts))), tuple)
@@ -109,7 +111,8 @@ class BestPlan(unittest.TestCase):
 class Indexing(unittest.TestCase):
 
     def check(self, index, clauses, argument, source):
-        for term in [v(0), i(1), a("a"), a("zz"), f("a", v(0)), *[random_term(source, 3, ["a", "b"]) for _ in range(3)]]:
+        for term in [v(0), i(1), a("a"), a("zz"), f("a", v(0)), *[random_term(source, 3, ["a",
+            "b"]) for _ in range(3)]]:
             expected = [position for position, (head, _) in enumerate(clauses)
                         if key(term) is None or key(parts(head)[argument]) in (None, key(term))]
             found = index.find(term)

@@ -48,33 +48,42 @@ TEXTS = [
     ("p(1). p(2).", "catch(findall(X, (p(X), X = 2, throw(X)), L), Y, true)"), ("", "findall(X, Y, Z)"),
     ("", "X = f(Y), Y = 1"), ("", "X = f(X)"), ("", "f(X, Y) = f(Y, 1)"), ("", "X \\= 1"), ("", "1 \\= 2"),
     ("", "X == X"), ("", "X == Y"), ("", "X \\== Y"), ("", "a @< b"), ("", "X @< Y"), ("", "compare(O, 1, a)"),
-    ("", "compare(O, f(1), f(1))"), ("", "compare(O, X, Y)"), ("", "var(X), nonvar(a), atom(a), integer(1), callable(a)"),
+    ("", "compare(O, f(1), f(1))"), ("", "compare(O, X, Y)"),
+    ("", "var(X), nonvar(a), atom(a), integer(1), callable(a)"),
     ("", "var(a) ; nonvar(X) ; atom(1) ; integer(a) ; callable(1) ; X = 1"), ("", "functor(f(a, b), N, A)"),
-    ("", "functor(T, f, 3)"), ("", "functor(T, f, 3), T = f(1, X, X)"), ("", "functor(T, N, 3)"), ("", "functor(T, f, 9)"),
+    ("", "functor(T, f, 3)"), ("", "functor(T, f, 3), T = f(1, X, X)"), ("", "functor(T, N, 3)"),
+    ("", "functor(T, f, 9)"),
     ("", "functor(T, 5, 0)"), ("", "functor(T, f(x), 1)"), ("", "arg(2, f(a, b), X)"), ("", "arg(3, f(a, b), X)"),
     ("", "arg(X, f(a), Y)"), ("", "arg(1, a, Y)"), ("", "f(a, B) =.. L"), ("", "T =.. [f, A, 2]"), ("", "T =.. []"),
-    ("", "T =.. [X]"), ("", "copy_term(f(X, Y, X), T)"), ("", "sort([c, 1, b, X, a, 1], L)"), ("", "sort([b, f(X)|Y], L)"),
+    ("", "T =.. [X]"), ("", "copy_term(f(X, Y, X), T)"), ("", "sort([c, 1, b, X, a, 1], L)"),
+    ("", "sort([b, f(X)|Y], L)"),
     ("", "sort([c, 1, b, a, 1], L)"), ("", "X is 2 + 3 * 4 - 7 // 2"), ("", "X is 7 mod 0"), ("", "X is foo + 1"),
-    ("", "X is Y + 1"), ("", "1 + 1 =:= 2"), ("", "1 < 2, 2 =< 2"), ("", "2 < 1 ; 3 =< 2"), ("", "write(f(X, Y, X)), nl"),
+    ("", "X is Y + 1"), ("", "1 + 1 =:= 2"), ("", "1 < 2, 2 =< 2"), ("", "2 < 1 ; 3 =< 2"),
+    ("", "write(f(X, Y, X)), nl"),
     ("p(1). p(2).", "p(X), write(X), nl, fail"), (":- dynamic(p, 1).", "p(X)"),
     (":- dynamic(p, 1).", "assertz(p(1)), asserta(p(2)), assertz((p(X) :- X = 3)), p(Y)"),
     (":- dynamic(p, 1). p(1). p(2). p(3).", "p(X), assertz(p(4)), retract(p(2))"),
-    (":- dynamic(p, 1). p(1). p(2). p(3).", "retract(p(X)), p(Y)"), ("p(1).", "assertz(p(2))"), ("p(1).", "retract(p(1))"),
+    (":- dynamic(p, 1). p(1). p(2). p(3).", "retract(p(X)), p(Y)"), ("p(1).", "assertz(p(2))"),
+    ("p(1).", "retract(p(1))"),
     (":- dynamic(p, 1). p(1). p(2).", "p(X), retract(p(2)), p(Y)"), ("", "assertz(3)"), ("", "assertz(X)"),
     (":- dynamic(p, 1).", "assertz((p(X) :- (X = 1 ; X = 2), !)), p(Y)"), (":- dynamic(p, 0).", "retract(p)"),
     ("e(a, b). e(b, c). q(X, Y) :- q(X, Z), e(Z, Y). q(X, Y) :- e(X, Y).", "tabled(q(a, X))"),
     ("e(a, b). e(b, c). q(X, Y) :- q(X, Z), e(Z, Y). q(X, Y) :- e(X, Y).", "tabled(q(X, Y)), !"),
-    ("p(X, X). p(X, Y).", "tabled(p(A, B)), tabled(p(C, A))"), ("", "tabled(X)"), ("", "tabled(3)"), ("", "tabled(none)"),
+    ("p(X, X). p(X, Y).", "tabled(p(A, B)), tabled(p(C, A))"), ("", "tabled(X)"), ("", "tabled(3)"),
+    ("", "tabled(none)"),
     ("p :- q ; r. q.", "tabled(p)"), ("p :- q. q :- none.", "tabled(p)"), ("", "tabled((p, q))"),
-    (":- dynamic(p, 1). p(1). q(X) :- p(X).", "assertz(p(2)), asserta(p(0)), tabled(q(X)), retract(p(X)), tabled(q(Y))"),
+    (":- dynamic(p, 1). p(1). q(X) :- p(X).",
+    "assertz(p(2)), asserta(p(0)), tabled(q(X)), retract(p(X)), tabled(q(Y))"),
     ("", "solve([X, Y], [X in 1 .. 3, Y in 1 .. 3, X < Y])"), ("", "solve([X], [X in 3 .. 1])"), ("", "solve(X, [])"),
-    ("", "solve([], []), solve([X, 7, X], [X in 1 .. 2])"), ("", "solve([X], [X in 1 .. 3, foo])"), ("", "solve([Y], [])"),
+    ("", "solve([], []), solve([X, 7, X], [X in 1 .. 2])"), ("", "solve([X], [X in 1 .. 3, foo])"),
+    ("", "solve([Y], [])"),
     ("", "X = 2, solve([X, Y], [Y in 1 .. 3, Y =:= X + 1])"), ("", "solve([X], [X in 1 .. 3]), X \\= 1, !"),
     (REVERSE, "rev([1, 2, 3, 4, 5], X)"), (APPEND, "app(X, Y, [1, 2, 3])"), (QUEENS, "queens(4, X)"),
     ("len([], 0). len([_|T], N) :- len(T, M), N is M + 1.", "len([a, b, c, d], N)"),
     ("n(z). n(s(X)) :- n(X). l(X, X) :- !. l(X, s(Y)) :- l(X, Y).", "n(s(s(s(z)))), l(z, s(s(z)))"),
     ("fac(0, 1) :- !. fac(N, F) :- M is N - 1, fac(M, G), F is N * G.", "fac(20, X)"),
-    ("h(A, B, C, D, E, F, G, H) :- h2(H, G, F, E, D, C, B, A). h2(1, 2, 3, 4, 5, 6, 7, 8).", "h(A, B, C, D, E, F, G, H)"),
+    ("h(A, B, C, D, E, F, G, H) :- h2(H, G, F, E, D, C, B, A). h2(1, 2, 3, 4, 5, 6, 7, 8).",
+    "h(A, B, C, D, E, F, G, H)"),
 ]
 
 
@@ -99,16 +108,15 @@ class Running(unittest.TestCase):
         """Whether point 67 holds; returns the machine."""
         events, count, constant, search = telling(program, query, steps)
         machine = Machine(program, query, **more)
-        done = events
-        if LIMIT in events:
-            events = events[:events.index(LIMIT)]
+        whole = search.ended() and LIMIT not in events
+        events = [event for event in events if event != LIMIT]
         left = constant * (count + 1)
-        while left > 0 and not machine.ended() and (search.ended() or len(machine.run(0)) < len(events)):
+        while left > 0 and not machine.ended() and (whole or len(machine.run(0)) < len(events)):
             machine.run(100)
             left -= 100
         found = machine.run(0)
         self.assertEqual(found[:len(events)], events)
-        if search.ended() and LIMIT not in done:
+        if whole:
             self.assertEqual(found, events)
             self.assertIs(machine.ended(), True)
             self.assertEqual(machine.program().clauses(), search.program().clauses())
@@ -130,12 +138,14 @@ class Constructs(Running):
         """The same goals, called through a clause, in the middle of a body and nested."""
         for program, query in TEXTS:
             for clause in ("main :- {}.", "main :- true, ({}), true.", "main :- go, ({}), go. go.",
-                           "main :- ({}), ! ; true.", "main :- \\+ \\+ ({}).", "main :- findall(x, ({}), L), write(L)."):
+                           "main :- ({}), ! ; true.", "main :- \\+ \\+ ({}).",
+                           "main :- findall(x, ({}), L), write(L)."):
                 self.compare_text(program + " " + clause.format(query), "main")
 
     def test_in_other_constructs(self):
         for program, query in TEXTS:
-            for outer in ("catch(({}), E9, true)", "(({}) ; true)", "call(({}))", "(({}) -> true ; true)", "({}), fail"):
+            for outer in ("catch(({}), E9, true)", "(({}) ; true)", "call(({}))", "(({}) -> true ; true)",
+                "({}), fail"):
                 self.compare_text(program, outer.format(query))
 
     def test_with_other_plans_and_collections(self):
@@ -302,11 +312,13 @@ class Limits(unittest.TestCase):
             self.check(sized(size), LIMIT)
 
     def test_goals_of_built_in_predicates(self):
-        for goal in (f("write", v(0)), f("var", v(0)), f("copy_term", a("a"), v(0)), f("arg", i(1), v(0), v(9)), f("==", v(0), i(3)),
+        for goal in (f("write", v(0)), f("var", v(0)), f("copy_term", a("a"), v(0)), f("arg", i(1), v(0), v(9)),
+            f("==", v(0), i(3)),
                      f("functor", v(0), v(8), v(9)), f("\\=", i(1), v(0)), f("=", i(1), v(0)),
                      f("@<", i(1), v(0)), f("sort", f("[]"), v(0)), f("nonvar", v(0)), f("compare", v(9), v(0), i(1))):
             self.at_200_and_201(goal, "end")
-        for goal in (f("is", v(9), v(0)), f("assertz", f(":-", v(0), a("true"))), f("retract", v(0)), f("tabled", f("none", v(0))),
+        for goal in (f("is", v(9), v(0)), f("assertz", f(":-", v(0), a("true"))), f("retract", v(0)),
+            f("tabled", f("none", v(0))),
                      f("solve", v(0), a("[]"))):
             self.at_200_and_201(goal, "end" if goal[0][1] in ("assertz", "retract") else "error")
 
@@ -360,6 +372,16 @@ class Limits(unittest.TestCase):
             found = Machine(program, f("findall", v(0), goal, v(2))).run(10 ** 4)
             self.assertEqual([event[0] for event in found], [last])
             self.assertEqual(found, Search(program, f("findall", v(0), goal, v(2))).run(10 ** 4))
+
+    def test_answers(self):
+        for size, last in ((200, "end"), (201, "limit")):
+            program, _ = self.with_size(f("g", v(0)), size + 1)
+            query = f(",", f("h", v(0), v(1)), f("l", v(1)))
+            found = Machine(program, query).run(10 ** 4)
+            self.assertEqual(found[-1][0], last)
+            self.assertEqual(found, Search(program, query).run(10 ** 4))
+        machine = Machine(read_program("p(z). p(s(X)) :- p(X)."), read("p(X)"))
+        self.assertEqual(len(machine.run(10 ** 5)), 201)
 
     def test_the_list_of_findall(self):
         for count, limited in ((99, False), (100, True)):
@@ -420,11 +442,13 @@ class Sizes(unittest.TestCase):
 
     def test_frames_of_a_recursion(self):
         program = "d(z) :- in. d(s(X)) :- d(X), out. in. out."
-        frames = [self.at_calls(program, "d(" + "s(" * depth + "z" + ")" * depth + ")", "in")[0][2] for depth in range(6)]
+        frames = [self.at_calls(program, "d(" + "s(" * depth + "z" + ")" * depth + ")",
+            "in")[0][2] for depth in range(6)]
         self.assertEqual([frame - frames[0] for frame in frames], [0, 1, 2, 3, 4, 5])
         # Not where the calls are last calls.
         program = "d(z) :- in. d(s(X)) :- out, d(X). in. out."
-        frames = [self.at_calls(program, "d(" + "s(" * depth + "z" + ")" * depth + ")", "in")[0][2] for depth in range(1, 6)]
+        frames = [self.at_calls(program, "d(" + "s(" * depth + "z" + ")" * depth + ")",
+            "in")[0][2] for depth in range(1, 6)]
         self.assertEqual(frames, [frames[0]] * 5)
 
     def test_frames_that_are_kept_for_choice_points(self):
@@ -434,17 +458,21 @@ class Sizes(unittest.TestCase):
         self.assertEqual([size[3] for size in sizes], [0, 1, 2, 3, 4, 5])
 
     def test_frames_are_gone_when_a_new_one_is_made(self):
-        program = "p :- deep(s(s(s(z)))), mark, q, mark. deep(z). deep(s(X)) :- deep(X), out. out. q :- mark, out. mark."
+        program = ("p :- deep(s(s(s(z)))), mark, q, mark. deep(z). deep(s(X)) :- deep(X), out. out. q :- mark, out. "
+            "mark.")
         sizes = self.at_calls(program, "p", "mark")
         # Behind the deep call its frames are still there; q is placed behind that of p.
         self.assertEqual([size[2] - sizes[1][2] for size in sizes], [2, 0, 0])
 
     def test_choice_points(self):
-        program = "p(1). p(2). p(3). here. q :- (true ; here), here. r :- (p(X) -> here ; true). s :- \\+ \\+ here. two. two."
+        program = ("p(1). p(2). p(3). here. q :- (true ; here), here. r :- (p(X) -> here ; true). s :- \\+ \\+ here. "
+            "two. two.")
         for query, counts in (
-                ("here", [0]), ("p(X), here", [1, 1, 0]), ("p(3), here", [0]), ("p(X), p(Y), here", [2, 2, 1, 2, 2, 1, 1, 1, 0]),
+                ("here", [0]), ("p(X), here", [1, 1, 0]), ("p(3), here", [0]), ("p(X), p(Y), here", [2, 2, 1, 2, 2, 1,
+                1, 1, 0]),
                 ("q", [1, 0, 0]), ("r", [0]), ("s", [2]), ("catch(here, E, true), here", [1, 1]),
-                ("findall(X, (p(X), here), L), here", [2, 2, 1, 0]), ("p(X), !, here", [0]), ("call((p(X), !)), here", [0]),
+                ("findall(X, (p(X), here), L), here", [2, 2, 1, 0]), ("p(X), !, here", [0]), ("call((p(X), !)), here",
+                [0]),
                 ("catch((p(X), here), E, true)", [2, 2, 1]), ("(here ; here)", [1, 0]), ("\\+ here", [1]),
                 ("catch(catch(here, A, true), B, true), here", [2, 2]),
                 ("catch((two, throw(a)), a, here)", [0]), ("two, catch((two, throw(a)), a, here), fail", [1, 0])):
@@ -452,10 +480,12 @@ class Sizes(unittest.TestCase):
                 self.assertEqual([size[3] for size in self.at_calls(program, query, "here")], counts)
 
     def test_the_trail(self):
-        program = "here. two. two. p :- two, X = 1, here(X). here(X). q(X) :- two, X = 1, here(X). r :- X = Y, two, Y = 1, here(X)."
+        program = ("here. two. two. p :- two, X = 1, here(X). here(X). q(X) :- two, X = 1, here(X). r :- X = Y, two, "
+            "Y = 1, here(X).")
         for query, counts in (
                 # A variable that is older than the choice point is trailed, a newer one is not.
-                ("p", [0, 0]), ("q(X)", [1, 0]), ("r", [1, 0]), ("two, X = 1, here(X)", [1, 0]), ("X = 1, two, here(X)", [0, 0]),
+                ("p", [0, 0]), ("q(X)", [1, 0]), ("r", [1, 0]), ("two, X = 1, here(X)", [1, 0]),
+                ("X = 1, two, here(X)", [0, 0]),
                 ("X = Y, Z = 1, here(X)", [0]), ("two, X = 1, two, Y = 1, here(X)", [2, 2, 1, 0]),
                 ("two, X = f(Y), Y = 2, here(X)", [2, 0]), ("(X = 1 ; X = 2), here(X)", [1, 0]),
                 ("two, X = 1, !, here(X)", [1]), ("catch((X = 1, throw(a)), a, true), here(X)", [0])):
@@ -536,7 +566,8 @@ class BuiltIns(Running):
             else:
                 rows = [f("p", i(number)) for number in range(100)]
                 program = Program([*rows, *[f("q", i(number)) for number in range(99)],
-                                   read("q(X) :- p(X), p(100)"), f("p", i(100))][:199] + [read("r(X) :- p(X), q(X)")], [])
+                                   read("q(X) :- p(X), p(100)"), f("p", i(100))][:199] + [read("r(X) :- p(X), q(X)")],
+                                   [])
                 self.compare(program, read("tabled(r(X))"))
         program = Program(facts(100) + [read("q(X) :- p(X)"), read("q(a)")], [])
         self.assertEqual(Machine(program, read("tabled(q(X))")).run(10 ** 5), [LIMIT])
@@ -561,9 +592,11 @@ class BuiltIns(Running):
                 ("p :- none, q. q :- r ; s.", "tabled(p)", "existence_error(procedure,/(none,0))"),
                 ("p :- !. p :- none.", "tabled(p)", "type_error(definite,/(p,0))"),
                 ("p :- q. q :- nl.", "tabled(p)", "type_error(definite,/(q,0))"),
-                ("", "tabled(call(p))", "type_error(definite,/(call,1))"), ("", "tabled(!)", "type_error(definite,/(!,0))"),
+                ("", "tabled(call(p))", "type_error(definite,/(call,1))"), ("", "tabled(!)",
+                "type_error(definite,/(!,0))"),
                 ("", "solve(X, foo)", "instantiation_error"), ("", "solve([a|X], [foo])", "instantiation_error"),
-                ("", "solve([], foo)", "instantiation_error"), ("", "solve([a], [foo, X < 3])", "type_error(constraint,foo)"),
+                ("", "solve([], foo)", "instantiation_error"), ("", "solve([a], [foo, X < 3])",
+                "type_error(constraint,foo)"),
                 ("", "solve([a], [X < 3, X in 1 .. 2, bar])", "type_error(constraint,bar)"),
                 ("", "solve([a], [Y < 3, X in 1 .. 2])", "type_error(constraint,_0 < 3)"),
                 ("", "solve([a], [X in 1 .. 51])", "type_error(constraint,_0 in 1 .. 51)"),
@@ -575,9 +608,12 @@ class BuiltIns(Running):
 
     def test_the_present_clauses(self):
         program = ":- dynamic(p, 1). p(2). q(X) :- p(X). q(0)."
-        for query in ("tabled(q(X))", "assertz(p(3)), tabled(q(X))", "asserta(p(1)), tabled(q(X))", "retract(p(2)), tabled(q(X))",
-                      "tabled(q(X)), assertz(p(7)), tabled(q(Y)), !", "assertz((p(X) :- r(X))), catch(tabled(q(X)), E, true)",
-                      "assertz((p(X) :- X)), catch(tabled(q(X)), E, true)", "tabled(q(X)), asserta(p(7)), fail ; tabled(q(Y))"):
+        for query in ("tabled(q(X))", "assertz(p(3)), tabled(q(X))", "asserta(p(1)), tabled(q(X))",
+            "retract(p(2)), tabled(q(X))",
+                      "tabled(q(X)), assertz(p(7)), tabled(q(Y)), !",
+                      "assertz((p(X) :- r(X))), catch(tabled(q(X)), E, true)",
+                      "assertz((p(X) :- X)), catch(tabled(q(X)), E, true)",
+                      "tabled(q(X)), asserta(p(7)), fail ; tabled(q(Y))"):
             self.compare_text(program, query)
 
     def test_alternatives_are_left_by_cuts(self):
@@ -606,22 +642,26 @@ class LongRuns(unittest.TestCase):
             self.assertEqual(self.run_text(program, "go([X|_])", 30, collect_at=collect_at), with_all)
 
     def test_counting(self):
-        program = "c(0) :- !. c(N) :- M is N - 1, c(M). s(0, S, S) :- !. s(N, A, S) :- B is A + N, M is N - 1, s(M, B, S)."
+        program = ("c(0) :- !. c(N) :- M is N - 1, c(M). s(0, S, S) :- !. s(N, A, S) :- B is A + N, M is N - 1, s(M, "
+            "B, S).")
         self.assertEqual(self.run_text(program, "c(4000)", 20), [("answer", []), END])
         for collect_at in ((), tuple(range(0, 20000, 3)), tuple(range(6000))):
-            self.assertEqual(self.run_text(program, "s(1000, 0, S)", 30, collect_at=collect_at), [("answer", [i(500500)]), END])
+            self.assertEqual(self.run_text(program, "s(1000, 0, S)", 30, collect_at=collect_at), [("answer",
+                [i(500500)]), END])
 
     def test_backtracking(self):
         for collect_at in ((), tuple(range(0, 40000, 11))):
             events = self.run_text(QUEENS, "queens(5, X)", 30, collect_at=collect_at)
             self.assertEqual(len(events), 11)
-        program = "len([], 0). len([_|T], N) :- len(T, M), N is M + 1. mk(0, []). mk(N, [N|T]) :- 0 < N, M is N - 1, mk(M, T). go(N) :- mk(800, L), len(L, N)."
+        program = ("len([], 0). len([_|T], N) :- len(T, M), N is M + 1. mk(0, []). mk(N, [N|T]) :- 0 < N, M is N - 1, "
+            "mk(M, T). go(N) :- mk(800, L), len(L, N).")
         for plan in ((), (0,)):
             self.assertEqual(self.run_text(program, "go(N)", 20, plan=plan),
                              [("answer", [i(800)]), END])
 
     def test_runs_that_do_not_end(self):
-        for program in ("p(X) :- p(X).", "p(X) :- p(X), p(X).", "p(X) :- p(f(X)).", "p(X) :- q(X, Y), p(f(Y)). q(X, X).",
+        for program in ("p(X) :- p(X).", "p(X) :- p(X), p(X).", "p(X) :- p(f(X)).",
+            "p(X) :- q(X, Y), p(f(Y)). q(X, X).",
                         "p(X) :- (p(X) ; true)."):
             machine = Machine(read_program(program), read("p(a)"))
             started = time.time()

@@ -16,7 +16,8 @@ class Collections(unittest.TestCase):
         """Machines that collect do the same as one that does not, with no more cells and entries of the trail."""
         sometimes = tuple(number for number in range(most) if source.random() < 0.15)
         plain = Machine(program, query)
-        others = [Machine(program, query, collect_at=given) for given in (ALWAYS[:most], sometimes, tuple(range(0, most, 9)))]
+        others = [Machine(program, query, collect_at=given) for given in (ALWAYS[:most], sometimes,
+            tuple(range(0, most, 9)))]
         for _ in range(most):
             if plain.ended():
                 break
@@ -77,7 +78,8 @@ class Collections(unittest.TestCase):
 
     def test_it_waits_while_a_compound_term_is_read_or_built(self):
         """At each place in front of, within and behind the instructions of compound terms."""
-        program = read_program("p(f(A, g(B, c), [A, B|T]), X) :- q(h(X, T, i(A, j(B, 1)), Y), k(Y, Y)). q(A, A) :- r. q(A, B) :- r. r.")
+        program = read_program("p(f(A, g(B, c), [A, B|T]), X) :- q(h(X, T, i(A, j(B, 1)), Y), k(Y, Y)). q(A, "
+            "A) :- r. q(A, B) :- r. r.")
         for text in ("p(X, Y)", "p(f(1, g(2, c), [1, 2]), x)", "p(f(X, Y, [Z, W, V]), V)", "p(f(X, g(f(X), Y), L), L)"):
             query = read(text)
             expected = Machine(program, query).run(10 ** 4)
@@ -151,7 +153,8 @@ class Roots(unittest.TestCase):
         sizes = self.cells_at(program, "p(x)", "q")
         self.assertGreaterEqual(sizes[0], 9)
         # Others are gone with the next call.
-        self.assertEqual(self.cells_at("p(X) :- q(f(a, b, c, d, e, g, h, X)), r. q(A). r :- here, s. here. s.", "p(x)", "here"), [0])
+        self.assertEqual(self.cells_at("p(X) :- q(f(a, b, c, d, e, g, h, X)), r. q(A). r :- here, s. here. s.",
+            "p(x)", "here"), [0])
 
     def test_the_variables_of_the_query(self):
         self.assertEqual(self.cells_at("here. q :- here, s. s.", "q", "here"), [0])
@@ -182,19 +185,24 @@ class LastCalls(unittest.TestCase):
         ("p(N, A, B) :- (N =< 0 -> A = B ; M is N - 1, C is A + N, p(M, C, B)).", "p({}, 0, X)"),
         ("p(N, A, B) :- (N =:= 0 -> A = B ; M is N - 1, A = f(Y, Z), p(M, f(Z, Y), B)).", "p({}, f(1, 2), X)"),
         ("p(N, A, B) :- (N =:= 0 -> A = B ; M is N - 1, A = f(Y, Z), p(M, f(Z, Y), B)). q. q.", "q, p({}, f(X, Y), Z)"),
-        ("p(N, A, B) :- (N =:= 0 -> A = B ; M is N - 1, A = f(Y, Z), p(M, f(Z, Y), B)).", "(fail ; X = 1 ; X = 2), p({}, f(X, Y), Z)"),
+        ("p(N, A, B) :- (N =:= 0 -> A = B ; M is N - 1, A = f(Y, Z), p(M, f(Z, Y), B)).",
+        "(fail ; X = 1 ; X = 2), p({}, f(X, Y), Z)"),
         ("p(N) :- \\+ N < 0, \\+ N = 0, M is N - 1, !, p(M). p(0).", "p({})"),
-        ("p(0). p(N) :- 0 < N, M is N - 1, call(p(M)).", "p({})"), ("p(0). p(N) :- 0 < N, M is N - 1, call(p, M).", "p({})"),
+        ("p(0). p(N) :- 0 < N, M is N - 1, call(p(M)).", "p({})"), ("p(0). p(N) :- 0 < N, M is N - 1, call(p, M).",
+        "p({})"),
         ("p(0). p(N) :- 0 < N, findall(Y, (Y = 1 ; Y = 2), L), M is N - 1, p(M).", "p({})"),
         ("p(0). p(N) :- 0 < N, q(N, M), p(M). q(N, M) :- M is N - 1.", "p({})"),
-        ("p(0, _). p(N, X) :- 0 < N, q(N, M, X, Y), p(M, Y). q(N, M, f(A, B), f(B, C)) :- M is N - 1.", "p({}, f(X, Y))"),
+        ("p(0, _). p(N, X) :- 0 < N, q(N, M, X, Y), p(M, Y). q(N, M, f(A, B), f(B, C)) :- M is N - 1.",
+        "p({}, f(X, Y))"),
         ("p(0, _). p(N, X) :- 0 < N, Y = X, q(N, M), p(M, Y). q(N, M) :- M is N - 1. r. r.", "r, p({}, X)"),
         ("p(0, _). p(N, X) :- 0 < N, X = Y, q(N, M), p(M, Y). q(N, M) :- M is N - 1. r. r.", "r, p({}, g(X, h(Y, X)))"),
         ("p(0, _). p(N, X) :- 0 < N, copy_term(X, Y), M is N - 1, p(M, Y). r. r.", "r, p({}, g(X, h(Y, X)))"),
         ("p(0). p(N) :- 0 < N, (q(N, M) ; fail), !, p(M). q(N, M) :- M is N - 1. r. r.", "r, p({})"),
         ("p(0). p(N) :- 0 < N, (q(N, M), M = K -> true ; fail), p(K). q(N, M) :- M is N - 1. r. r.", "r, p({})"),
-        (":- dynamic(c, 1). c(0). p(0). p(N) :- 0 < N, retract(c(X)), Y is X + 1, assertz(c(Y)), M is N - 1, p(M).", "p({})"),
-        ("e(N) :- (N =:= 0 -> true ; M is N - 1, o(M)). o(N) :- (N =:= 0 -> fail ; M is N - 1, e(M)).", "\\+ \\+ e({}) ; true"),
+        (":- dynamic(c, 1). c(0). p(0). p(N) :- 0 < N, retract(c(X)), Y is X + 1, assertz(c(Y)), M is N - 1, p(M).",
+        "p({})"),
+        ("e(N) :- (N =:= 0 -> true ; M is N - 1, o(M)). o(N) :- (N =:= 0 -> fail ; M is N - 1, e(M)).",
+        "\\+ \\+ e({}) ; true"),
     ]
 
     def greatest(self, program, query, **more):

@@ -13,7 +13,8 @@ from hornbook.unify import matches
 EDGE = "e(a, b). p(X) :- e(X, Y)."
 EDGE_TREE = (0, ((), ((0, ((None,), ())),)))
 SUM = "n(z). n(s(X)) :- n(X). q(X, Y) :- n(X), n(Y), m(X, Y). m(z, z). m(s(z), Y)."
-NO_TREES = [None, (), [], 0, True, "tree", (0,), (0, (), ()), [0, ()], (0, []), (0, None), (None, ()), ("0", ()), (0, 0)]
+NO_TREES = [None, (), [], 0, True, "tree", (0,), (0, (), ()), [0, ()], (0, []), (0, None), (None, ()), ("0", ()),
+    (0, 0)]
 
 
 def accepted_by_words(program, query, tree):
@@ -367,7 +368,8 @@ class Wrong(unittest.TestCase):
 
     def test_not_definite_before_all_else(self):
         good = clauses("p(X) :- q(X). q(a).")
-        for bad in ("p :- !.", "p :- X.", "p :- q, X.", "p :- q, (r, 3).", "p :- a ; b.", "p :- X = a.", "p :- write(1).",
+        for bad in ("p :- !.", "p :- X.", "p :- q, X.", "p :- q, (r, 3).", "p :- a ; b.", "p :- X = a.",
+            "p :- write(1).",
                     "p :- call(q)."):
             for at in range(3):
                 program = good[:at] + clauses(bad) + good[at:]

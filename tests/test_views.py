@@ -3,7 +3,8 @@
 import unittest
 
 from helper import (
-    BUILT_IN, CONTROL, f, i, normal_goals, random_prolog_goal, random_prolog_program, read, renumbered, seeded, shown, v)
+    BUILT_IN, CONTROL, f, i, normal_goals, random_prolog_goal, random_prolog_program, read, renumbered, seeded, shown,
+    v)
 from hornbook.machine import Machine
 from hornbook.program import Program, read_program
 from test_search import WordSearch
@@ -101,7 +102,8 @@ class Views(unittest.TestCase):
     def test_last_calls(self):
         program = "p(X) :- q(X), r(X). q(X) :- s(X). r(X) :- s(X). s(1)."
         self.assertEqual(self.views(program, "p(A), s(A)"), [
-            ["p(_0)", "s(_0)", "answer _0"], ["q(_0)", "r(_0)", "s(_0)", "answer _0"], ["s(_0)", "r(_0)", "s(_0)", "answer _0"],
+            ["p(_0)", "s(_0)", "answer _0"], ["q(_0)", "r(_0)", "s(_0)", "answer _0"],
+            ["s(_0)", "r(_0)", "s(_0)", "answer _0"],
             ["r(1)", "s(1)", "answer 1"], ["s(1)", "s(1)", "answer 1"], ["s(1)", "answer 1"]])
 
     def test_the_form_of_goals(self):
@@ -126,7 +128,8 @@ class Views(unittest.TestCase):
     def test_exit_items(self):
         program = "p(X) :- catch((q(X), r(X)), E, s(E)), t(X). q(1). r(1). t(1). s(1)."
         self.assertEqual(self.views(program, "p(A)")[1:], [
-            ["q(_0)", "r(_0)", "exit", "t(_0)", "answer _0"], ["r(1)", "exit", "t(1)", "answer 1"], ["t(1)", "answer 1"]])
+            ["q(_0)", "r(_0)", "exit", "t(_0)", "answer _0"], ["r(1)", "exit", "t(1)", "answer 1"],
+            ["t(1)", "answer 1"]])
         self.assertEqual(self.views("q(1). r.", "catch(catch(q(X), _, true), _, true), r"), [
             ["q(_0)", "exit", "exit", "r", "answer _0 ; _1 ; _2"], ["r", "answer 1 ; _0 ; _1"]])
         self.assertEqual(self.views("q(1).", "catch(throw(f(Y)), f(X), q(X))"), [["q(_0)", "answer _1 ; _0"]])
@@ -140,7 +143,8 @@ class Views(unittest.TestCase):
     def test_items_of_all_kinds(self):
         program = "p(X) :- catch(findall(Y, (\\+ q(Y), true ; r(Y)), X), E, true), t. q(1). r(2). t."
         self.assertEqual(self.views(program, "p(A)")[1:3], [
-            ["q(_0)", "commit", "fail", "found _0", "exit", "t", "answer _1"], ["r(_0)", "found _0", "exit", "t", "answer _1"]])
+            ["q(_0)", "commit", "fail", "found _0", "exit", "t", "answer _1"], ["r(_0)", "found _0", "exit", "t",
+            "answer _1"]])
 
     def test_what_is_never_reached_belongs_to_the_items(self):
         program = "p(X, Y) :- q(X), fail, r(X, Y), ! ; (q(Y), fail -> s(X, Z) ; s(Y, Z)). q(1) :- t. t. s(A, B)."
@@ -185,8 +189,18 @@ class Views(unittest.TestCase):
 
 class AtCall(unittest.TestCase):
 
+    def test_terms_that_are_too_large(self):
+        """The search has ended long before."""
+        machine = Machine(read_program("p(X) :- p(f(X, X))."), read("p(a)"))
+        for _ in range(300):
+            machine.step()
+            if machine.at_call() is not None and machine.view() is not None:
+                self.assertLess(len(machine.view()[0][1]), 100002)
+        self.assertEqual(machine.run(0), [])
+
     def test_behind_every_instruction(self):
-        program = read_program("p(X) :- q(X), X = 1, !, catch(r, E, true), call(q(X)), findall(X, r, L), \\+ throw(a). q(1). r.")
+        program = read_program("p(X) :- q(X), X = 1, !, catch(r, E, true), call(q(X)), findall(X, r, L), "
+            "\\+ throw(a). q(1). r.")
         machine, calls, others = Machine(program, read("p(A)")), [], 0
         while not machine.ended():
             call = machine.at_call()
@@ -263,12 +277,15 @@ class Drawn(unittest.TestCase):
     def test_what_is_never_reached_with_collections(self):
         """The items have also what no instruction will need."""
         for program, query in (
-                ("p(X, Y) :- q(X, Y), fail, r(X, Y, Z), r(Z, Z, Y). q(f(A, B), g(B)) :- s(A), s(B). s(h(C)) :- t(C). t(1). t(D).",
+                ("p(X, Y) :- q(X, Y), fail, r(X, Y, Z), r(Z, Z, Y). q(f(A, B), g(B)) :- s(A), s(B). s(h(C)) :- t(C). "
+                "t(1). t(D).",
                  "p(A, B)"),
                 ("p(X) :- q(X), fail, r(X). q(Y) :- s(Z), s(Y), t, t. s(f(A, A)). t :- u, u. u.", "p(A)"),
-                ("p(X) :- (q(X), fail, r(X) ; q(Y), r(Y), fail, r(X)). q(f(A)) :- r(A). q(2). r(Z) :- u(Z). u(g(C)) :- v, v. v.",
+                ("p(X) :- (q(X), fail, r(X) ; q(Y), r(Y), fail, r(X)). q(f(A)) :- r(A). q(2). r(Z) :- u(Z). "
+                "u(g(C)) :- v, v. v.",
                  "p(A)"),
-                ("p(X) :- q(X, Y), (r(Y) -> fail, s(X) ; fail, s(Y)). q(f(A), g(B, A)). r(g(1, C)) :- t. r(D) :- t. t :- u, u. u.",
+                ("p(X) :- q(X, Y), (r(Y) -> fail, s(X) ; fail, s(Y)). q(f(A), g(B, A)). r(g(1, C)) :- t. r(D) :- t. "
+                "t :- u, u. u.",
                  "p(A), s(A)")):
             given = read_program(program)
             for collect_at in (tuple(range(2000)), tuple(range(0, 2000, 3)), tuple(range(5, 2000, 17))):
