@@ -2,10 +2,9 @@
 
 from hornbook.errors import NotDefinite, TooLarge
 from hornbook.program import MOST_CLAUSES, MOST_CLAUSE_NODES, TRUE, is_built_in, is_control, split_clause
+from hornbook.steps import CONJUNCTION
 from hornbook.terms import end_of, is_symbol, next_number, renumber_together
 from hornbook.unify import MOST_NODES, apply, unify
-
-CONJUNCTION = ("f", ",", 2)
 
 
 def check_goal(term):

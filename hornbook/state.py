@@ -45,9 +45,9 @@ class State:
     `code` and `at` tell the next instruction, `return_code` and `return_label` where the
     execution continues behind the code, and `level` is the number of choice points when
     the code was called. `frame` is the index of the current frame. `slot_trail` has the
-    frames and numbers of the slots that were written while a choice point remembered the
-    frame: backtracking makes them count as not written, since each of them refers to a
-    variable that was made for it, behind the end that the heap then has.
+    slots that were written while a choice point remembered their frame, each with the frame,
+    its number, and the index of the frame: backtracking makes them count as not written, since
+    each of them refers to a variable that was made for it, behind the end that the heap then has.
     """
 
     def __init__(self):
@@ -85,7 +85,7 @@ class State:
         frame = self.frames[self.frame]
         frame.slots[number] = cell
         if len(self.choices) > 0 and self.frame < self.choices[-1].kept:
-            self.slot_trail.append((frame, number))
+            self.slot_trail.append((frame, number, self.frame))
 
     def enter(self, code, cells):
         """Continue at the beginning of code, with these cells as its arguments."""
@@ -137,15 +137,21 @@ class State:
 
     def leave_choices(self, count):
         """Remove all choice points but the lowest ones, so many."""
-        if count < len(self.choices):
-            del self.choices[count:]
-            self.protect_older()
+        if count >= len(self.choices):
+            return
+        del self.choices[count:]
+        self.protect_older()
+        # Of the slots that were written only those of frames that are still remembered matter.
+        start, kept = 0, 0
+        if count > 0:
+            start, kept = self.choices[-1].slot_writes, self.choices[-1].kept
+        self.slot_trail[start:] = [entry for entry in self.slot_trail[start:] if entry[2] < kept]
 
     def undo(self, choice):
         """Bring back what a choice point remembers."""
         self.heap.cut(choice.heap_length, choice.trail_length)
         while len(self.slot_trail) > choice.slot_writes:
-            frame, number = self.slot_trail.pop()
+            frame, number, _ = self.slot_trail.pop()
             frame.slots[number] = None
             frame.faded.pop(number, None)
         self.registers = {}

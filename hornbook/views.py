@@ -90,7 +90,7 @@ def view_of(state, instruction):
             more, count = code_items(state, code, label, frame, first)
             items.extend(more)
             first += count
-    terms = renumber_together([term for _, terms in items for term in terms])
+    terms = renumber_together([term for _, given in items for term in given])
     view = []
     for word, given in items:
         view.append(item_of(word, terms[:len(given)]))
