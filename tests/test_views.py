@@ -277,6 +277,7 @@ class Drawn(unittest.TestCase):
     def test_what_is_never_reached_with_collections(self):
         """The items have also what no instruction will need."""
         for program, query in (
+                ("p :- (c(X), d, fail, f(X) ; g, e(X)), g. c(k(A)). d :- g, g. g. e(B).", "p"),
                 ("p(X, Y) :- q(X, Y), fail, r(X, Y, Z), r(Z, Z, Y). q(f(A, B), g(B)) :- s(A), s(B). s(h(C)) :- t(C). "
                 "t(1). t(D).",
                  "p(A, B)"),
