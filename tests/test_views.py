@@ -278,6 +278,7 @@ class Drawn(unittest.TestCase):
         """The items have also what no instruction will need."""
         for program, query in (
                 ("p :- (c(X), d, fail, f(X) ; g, e(X)), g. c(k(A)). d :- g, g. g. e(B).", "p"),
+                ("p :- a, c(X), d, fail, f(X). p. a :- b, g. b :- (g ; g), g. c(k(A)). d :- g, g. g.", "p"),
                 ("p(X, Y) :- q(X, Y), fail, r(X, Y, Z), r(Z, Z, Y). q(f(A, B), g(B)) :- s(A), s(B). s(h(C)) :- t(C). "
                 "t(1). t(D).",
                  "p(A, B)"),
