@@ -20,15 +20,11 @@ def result_of(database, update):
 
 
 def play(database, updates):
-    """Return the list of the results of updates, performed one after the other.
-
-    No function changes its arguments, so that they are performed in a twin of the database.
-    """
-    twin = database.twin()
+    """Perform updates of a database one after the other, and return the list of their results."""
     results = []
     for update in updates:
         try:
-            results.append(result_of(twin, update))
+            results.append(result_of(database, update))
         except Closed:
             results.append("Closed")
         except BadClause:

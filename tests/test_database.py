@@ -496,36 +496,76 @@ class Playing(unittest.TestCase):
     def test_no_updates(self):
         self.assertEqual(play(Database(), []), [])
 
-    def test_the_argument_does_not_change(self):
-        """Point 1: no function modifies its arguments, so that the same updates have the same results twice."""
-        database = Database()
-        updates = list(self.UPDATES)
-        self.assertEqual(play(database, updates), self.RESULTS)
-        self.assertEqual(play(database, updates), self.RESULTS)
+    def test_the_database_has_changed(self):
+        database, updates = Database(), list(self.UPDATES)
+        play(database, updates)
+        # The updates themselves stay as they are.
         self.assertEqual(updates, self.UPDATES)
-        self.assertEqual((database.generation, database.stored(), database.clauses("p", 0)), (0, 0, []))
+        self.assertEqual((database.generation, database.stored()), (4, 2))
+        self.assertEqual(database.clauses("p", 0), [(1, f(":-", a("p"), v(0)))])
+        self.assertEqual(database.predicates(), [("p", 0), ("q", 0)])
+        with self.assertRaises(Closed):
+            database.next_clause(1)
+        self.assertEqual(database.open_call("p", 0), 2)
+
+    def test_an_update_with_an_error_changes_nothing(self):
+        errors = [("add", clause, first) for clause in BAD_CLAUSES for first in (False, True)]
+        errors += [("next", 1), ("next", -1), ("next", 10 ** 20), ("close", 1), ("close", -1), ("close", 2)]
+        for update in errors:
+            database = Database()
+            play(database, [("add", a("p"), False), ("open", "p", 0, False), ("open", "p", 0, True), ("close", 1)])
+            before = state_of(database)
+            expected = "BadClause" if update[0] == "add" else "Closed"
+            self.assertEqual(play(database, [update]), [expected])
+            self.assertEqual(state_of(database), before)
+            # The updates behind it are performed.
+            self.assertEqual(play(database, [update, ("add", a("q"), False), update, ("next", 0)]),
+                             [expected, 1, expected, (0, a("p"))])
+            self.assertEqual(database.clauses("q", 0), [(1, a("q"))])
 
     def test_a_database_with_clauses_and_calls(self):
         database = Database()
         database.add(a("p"))
         database.add(f("p", i(1)))
         call = database.open_call("p", 0)
+        updates = [("next", call), ("add", a("p"), False), ("erase", 1), ("open", "p", 1, False), ("next", 1)]
+        self.assertEqual(play(database, updates), [(0, a("p")), 2, True, 1, None])
+        self.assertEqual(database.clauses("p", 0), [(0, a("p")), (2, a("p"))])
+        self.assertEqual(database.clauses("p", 1), [])
+        self.assertEqual(play(database, [("next", call), ("next", call), ("next", 1)]), [None, "Closed", "Closed"])
+
+    def test_twins(self):
+        """A twin that was made before is another database."""
+        for played in (0, 1):
+            database = Database()
+            play(database, [("add", a("p"), False), ("open", "p", 0, False)])
+            both = (database, database.twin())
+            before = state_of(both[1 - played])
+            self.assertEqual(play(both[played], [("next", 0), ("erase", 0), ("close", 0), ("sweep",)]),
+                             [(0, a("p")), True, None, 1])
+            self.assertEqual(state_of(both[1 - played]), before)
+            self.assertEqual(both[1 - played].next_clause(0), (0, a("p")))
+
+    def test_results_are_apart(self):
+        """A caller may change the list of the results."""
+        database = Database()
+        results = play(database, [("add", a("p"), False), ("open", "p", 0, False)])
         before = state_of(database)
-        updates = [("next", call), ("next", call), ("add", a("p"), False), ("erase", 1), ("open", "p", 1, False),
-            ("next", 1)]
-        for _ in range(2):
-            self.assertEqual(play(database, updates), [(0, a("p")), None, 2, True, 1, None])
+        results.clear()
         self.assertEqual(state_of(database), before)
-        self.assertEqual(database.next_clause(call), (0, a("p")))
+        self.assertEqual(play(database, [("next", 0)]), [(0, a("p"))])
 
     def test_drawn(self):
         source = seeded(91)
         for _ in range(150):
             updates = random_updates(source, source.randrange(1, 50))
-            model, database = Model(), Database()
+            model, one, other = Model(), Database(), Database()
             expected = [model.update(update) for update in updates]
-            self.assertEqual(play(database, updates), expected)
-            self.assertEqual([performed(database, update) for update in updates], expected)
+            self.assertEqual([performed(one, update) for update in updates], expected)
+            # The updates may also come in several lists, one behind the other.
+            place = source.randrange(len(updates) + 1)
+            self.assertEqual(play(other, updates[:place]) + play(other, updates[place:]), expected)
+            self.assertEqual(state_of(other), state_of(one))
 
 
 if __name__ == "__main__":
