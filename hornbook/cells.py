@@ -3,9 +3,6 @@
 from hornbook.errors import TooLarge
 from hornbook.terms import arity_of, is_variable
 
-# So many cells may be looked at when a term is loaded.
-MOST_LOOKS = 100000
-
 
 def is_reference(cell):
     """Tell whether a cell is a reference or an unbound variable."""
@@ -129,27 +126,30 @@ class Heap:
 
     def load(self, cell):
         """Return the term of a cell. Each unbound variable has its index as its number."""
+        return self.load_within(cell, None)
+
+    def load_within(self, cell, most):
+        """Return the term of a cell as load does, but raise TooLarge if it has more nodes than most."""
         cells = self._cells
         nodes = []
         waiting = [cell]
-        looks = 0
         while len(waiting) > 0:
-            looks += 1
-            if looks > MOST_LOOKS:
-                raise TooLarge("a term has more than 100,000 cells")
             cell = waiting.pop()
             if is_reference(cell):
                 held = cells[cell[1]]
-                if held == cell:
-                    nodes.append(("v", cell[1]))
-                else:
+                if held != cell:
                     waiting.append(held)
+                    continue
+                nodes.append(("v", cell[1]))
             elif is_compound(cell):
                 symbol = cells[cell[1]]
                 nodes.append(symbol)
                 waiting.extend(cells[cell[1] + symbol[2]:cell[1]:-1])
             else:
                 nodes.append(cell)
+            # Each cell that waits is a node at least.
+            if most is not None and len(nodes) + len(waiting) > most:
+                raise TooLarge("a term has too many nodes")
         return tuple(nodes)
 
     def occurs(self, index, cell):

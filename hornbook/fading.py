@@ -6,8 +6,9 @@ use fades when it is let go: it becomes a term whose variables have numbers of a
 where they stand for cells of the heap, and numbers below 0 where they are not on it any more.
 """
 
-from hornbook.cells import MOST_LOOKS, is_compound, is_reference
+from hornbook.cells import is_compound, is_reference
 from hornbook.instructions import reads, successors
+from hornbook.state import MOST_LOADED
 from hornbook.terms import is_variable
 
 
@@ -61,7 +62,7 @@ class Fading:
         nodes = []
         waiting = [cell]
         while len(waiting) > 0:
-            if len(nodes) + len(waiting) > MOST_LOOKS:
+            if len(nodes) + len(waiting) > MOST_LOADED:
                 return [self.new_name()]
             cell = waiting.pop()
             if is_reference(cell):
@@ -96,7 +97,7 @@ def faded_value(heap, term):
     nodes = []
     for node in term:
         if is_variable(node) and 0 <= node[1] < heap.size():
-            nodes.extend(heap.load(("ref", node[1])))
+            nodes.extend(heap.load_within(("ref", node[1]), MOST_LOADED - len(nodes)))
         else:
             nodes.append(node)
     return tuple(nodes)

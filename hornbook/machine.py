@@ -118,7 +118,7 @@ class Machine:
     def view(self):
         """Return the items that the search has at this call, or None if there is no call.
 
-        It is None also where a term has too many cells to be loaded: there the search has ended.
+        It is None also where an item is too large to be loaded: there the search has ended.
         """
         if self.at_call() is None:
             return None
@@ -155,10 +155,10 @@ class Machine:
             return True
         if word == "found":
             choice = state.choices[instruction[1]]
-            choice.rest.append(renumber(checked(state.heap.load(choice.held[0]))))
+            choice.rest.append(renumber(checked(state.load(choice.held[0]))))
             return False
         # The search has ended before an answer with a larger term.
-        answer = [checked(state.heap.load(cell)) for cell in state.frames[state.frame].slots]
+        answer = [checked(state.load(cell)) for cell in state.frames[state.frame].slots]
         self._events.append(("answer", renumber_together(answer)))
         return False
 
@@ -198,7 +198,7 @@ class Machine:
         """Return the goal that is called, which must not be too large."""
         nodes = [("f", name, arity)]
         for place in range(arity):
-            nodes.extend(self._state.heap.load(self._state.registers[place]))
+            nodes.extend(self._state.load(self._state.registers[place]))
         return checked(tuple(nodes))
 
     def _call_control(self, name, arity):
@@ -319,7 +319,7 @@ class Machine:
             found.append(renumber(term, first))
             first += len(variables(term))
         self._state.proceed()
-        return self._unify_terms(checked(list_term(found)), heap.load(choice.held[1]))
+        return self._unify_terms(checked(list_term(found)), self._state.load(choice.held[1]))
 
     def _raise_error(self, error, name, arity):
         """Throw the term for an error of a goal."""
@@ -334,9 +334,9 @@ class Machine:
             choice = state.choices[index]
             state.undo(choice)
             state.leave_choices(index)
-            if self._unify_terms(state.heap.load(choice.held[0]), renumber(ball, state.heap.size())):
+            if self._unify_terms(state.load(choice.held[0]), renumber(ball, state.heap.size())):
                 state.return_to(choice.code, choice.label)
                 state.level = index
-                return self._enter_goal(state.heap.load(choice.held[1]))
+                return self._enter_goal(state.load(choice.held[1]))
         self._end(("error", renumber(ball)))
         return True

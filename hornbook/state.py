@@ -2,6 +2,9 @@
 
 from hornbook.cells import Heap
 
+# A machine does not go on with a term that has more nodes.
+MOST_LOADED = 100000
+
 
 class Frame:
     """A frame: its slots, and where its caller continues.
@@ -86,6 +89,10 @@ class State:
         frame.slots[number] = cell
         if len(self.choices) > 0 and self.frame < self.choices[-1].kept:
             self.slot_trail.append((frame, number, self.frame))
+
+    def load(self, cell):
+        """Return the term of a cell, or raise TooLarge if the machine does not go on with it."""
+        return self.heap.load_within(cell, MOST_LOADED)
 
     def enter(self, code, cells):
         """Continue at the beginning of code, with these cells as its arguments."""

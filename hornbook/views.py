@@ -3,7 +3,7 @@
 from hornbook.decompiler import Reading
 from hornbook.fading import faded_value
 from hornbook.steps import FAIL, FIRST, MIDDLE, construct_places, step_goals
-from hornbook.terms import renumber_together
+from hornbook.terms import renumber_together, variables
 from hornbook.unify import apply
 
 
@@ -35,14 +35,18 @@ def code_items(state, code, label, frame, first):
     Variables that are in no slot yet are numbered from first on.
     """
     reading = Reading(code, 0)
+    items = items_behind(reading.steps, reading.returns[label])
     values = {number: (("v", first + number),) for number in range(len(reading.links))}
+    # A slot that no item shows may have a term of any size.
+    shown = {number: True for _, terms in items for term in terms for number in variables(term)}
     held = state.frames[frame]
     for (kind, number), name in reading.held.items():
-        if kind == "y" and held.slots[number] is not None:
-            values[name] = state.heap.load(held.slots[number])
-        elif kind == "y" and number in held.faded:
+        if kind != "y" or name not in shown:
+            continue
+        if held.slots[number] is not None:
+            values[name] = state.load(held.slots[number])
+        elif number in held.faded:
             values[name] = faded_value(state.heap, held.faded[number])
-    items = items_behind(reading.steps, reading.returns[label])
     return [(word, [apply(values, term) for term in terms]) for word, terms in items], len(values)
 
 
@@ -52,8 +56,8 @@ def marker_item(state, instruction, frame):
     if word == "exit":
         return ("exit", [])
     if word == "found":
-        return ("found", [state.heap.load(state.choices[instruction[1]].held[0])])
-    return ("answer", [state.heap.load(cell) for cell in state.frames[frame].slots])
+        return ("found", [state.load(state.choices[instruction[1]].held[0])])
+    return ("answer", [state.load(cell) for cell in state.frames[frame].slots])
 
 
 def is_marker(instruction):
@@ -80,7 +84,7 @@ def view_of(state, instruction):
     _, name, arity = instruction[:3]
     nodes = [("f", name, arity)]
     for place in range(arity):
-        nodes.extend(state.heap.load(state.registers[place]))
+        nodes.extend(state.load(state.registers[place]))
     items = [("goal", [tuple(nodes)])]
     first = state.heap.size()
     for code, label, frame in places_behind(state, instruction):

@@ -126,6 +126,56 @@ class Storing(Cells):
         cell = heap.store(v(0), {})
         self.assertEqual(heap.load(cell), v(cell[1]))
 
+    def test_load_of_large_terms(self):
+        """A term that shares its parts may have any number of nodes."""
+        for arity, times in ((1, 3000), (2, 16), (3, 11), (8, 6)):
+            heap = Heap()
+            shape = f("f", *[v(0)] * arity)
+            cell, expected = heap.store(a("a"), {}), a("a")
+            for _ in range(times):
+                cell = heap.store(shape, {0: cell})
+                expected = (shape[0], *expected * arity)
+            self.assertEqual(heap.load(cell), expected)
+            self.assertEqual(heap.size(), (arity + 1) * times)
+            self.check_form(heap)
+
+    def test_load_around_100000_nodes(self):
+        for count in (99998, 99999, 100000, 100001, 100002, 250000):
+            heap = Heap()
+            cell = 7
+            for _ in range(count - 1):
+                cell = heap.store(f("s", v(0)), {0: cell})
+            self.assertEqual(heap.load(cell), (("f", "s", 1),) * (count - 1) + (7,))
+
+    def test_load_of_large_terms_with_variables(self):
+        heap = Heap()
+        left, right = heap.store(v(0), {}), heap.store(v(0), {})
+        cell = heap.store(f("g", v(0), v(1), v(0)), {0: left, 1: right})
+        for _ in range(16):
+            cell = heap.store(f("f", v(0), v(0)), {0: cell})
+        inner = f("g", v(left[1]), v(right[1]), v(left[1]))
+        for _ in range(16):
+            inner = f("f", inner, inner)
+        self.assertEqual(heap.load(cell), inner)
+        # What is bound behind it shows in every place.
+        self.assertIs(heap.unify(left, heap.store(f("h", v(0)), {0: right})), True)
+        self.assertIs(heap.unify(right, -5), True)
+        loaded = heap.load(cell)
+        self.assertEqual(len(loaded), 2 ** 16 - 1 + 2 ** 16 * 6)
+        self.assertEqual(loaded[16:22], f("g", f("h", i(-5)), i(-5), f("h", i(-5))))
+        self.assertEqual(loaded.count(-5), 3 * 2 ** 16)
+
+    def test_load_through_many_references(self):
+        heap = Heap()
+        cells = [heap.store(v(0), {}) for _ in range(120000)]
+        for older, newer in zip(cells[-2::-1], cells[:0:-1]):
+            self.assertIs(heap.unify(newer, older), True)
+        self.assertEqual(heap.load(cells[-1]), v(0))
+        whole = heap.store(f("f", v(0), v(1)), {0: cells[-1], 1: cells[-2]})
+        self.assertEqual(heap.load(whole), f("f", v(0), v(0)))
+        self.assertIs(heap.unify(cells[-1], 4), True)
+        self.assertEqual(heap.load(whole), f("f", i(4), i(4)))
+
     def test_results_are_apart(self):
         heap = Heap()
         heap.store(f("f", v(0)), {})

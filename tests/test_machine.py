@@ -409,6 +409,23 @@ class Limits(unittest.TestCase):
         self.assertEqual(Search(program, query).run(100), [LIMIT])
         self.assertEqual(Machine(program, query).run(1000), [("write", "a"), ("answer", []), END])
 
+    def test_terms_that_share_parts(self):
+        """No machine loads a term of any size, as a heap does."""
+        for goal in ("write(X)", "call(X)", "throw(X)", "throw(f(X))", "catch(X, Y, Z)", "findall(X, true, Y)",
+                     "findall(Y, X, Z)", "assertz(X)", "copy_term(X, Y)"):
+            for count in (8, 17, 60):
+                program = read_program(f"r(s(N), X) :- r(N, f(X, X)). r(z, X) :- {goal}.")
+                query = f("r", chain("s", count, a("z")), a("a"))
+                self.assertEqual(Machine(program, query).run(10000), [LIMIT])
+                self.assertEqual(Search(program, query).run(10000), [LIMIT])
+        program = read_program("r(s(N), X) :- r(N, f(X, X)). r(z, X).")
+        for count in (8, 17, 60):
+            # A machine may go on with a term that it does not load.
+            tower = chain("s", count, a("z"))
+            self.assertEqual(Machine(program, f("r", tower, a("a"))).run(10000), [("answer", []), END])
+            query = f(",", f("=", v(0), tower), f("r", v(0), v(1)))
+            self.assertEqual(Machine(program, query).run(10000), [("answer", [tower, v(0)]), END])
+
     def test_no_other_limit(self):
         """A machine that adds the limit does it where the search does, too."""
         source = seeded(62)

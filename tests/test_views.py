@@ -189,6 +189,19 @@ class Views(unittest.TestCase):
 
 class AtCall(unittest.TestCase):
 
+    def test_large_terms_that_no_item_shows(self):
+        """The search goes on beside a term of any size that it does not need any more."""
+        for count in (3, 17, 28):
+            goals = ", ".join(f"X{number} = f(X{number + 1}, X{number + 1})" for number in range(count))
+            program = read_program(f"p(Y) :- {goals}, X{count} = Y, q(X{count}), r. q(1) :- r, r. r.")
+            expected, limited = search_views(program, read("p(Y)"), 1000)
+            self.assertFalse(limited)
+            self.assertEqual(len(expected), 5)
+            for collect_at in ((), tuple(range(2000)), tuple(range(1, 2000, 5))):
+                self.assertEqual(machine_views(program, read("p(Y)"), 6, collect_at=collect_at), expected)
+                machine = Machine(program, read("p(Y)"), collect_at=collect_at)
+                self.assertEqual(machine.run(2000), [("answer", [i(1)]), ("end",)])
+
     def test_terms_that_are_too_large(self):
         """The search has ended long before."""
         machine = Machine(read_program("p(X) :- p(f(X, X))."), read("p(a)"))
