@@ -27,6 +27,8 @@ class Choice:
 
     `kind` is "clauses", "terms", "label", "catch" or "findall", `code` and `label` tell
     where to continue. `held` has the cells that must be kept, and `rest` what is left.
+    `earlier` has terms of faded slots, by the index of the frame and the number of the slot:
+    those that the slots get when the choice point is taken, where they are other ones now.
     """
 
     def __init__(self, kind, code, label, held, rest):
@@ -40,6 +42,7 @@ class Choice:
         self.heap_length = 0
         self.trail_length = 0
         self.slot_writes = 0
+        self.earlier = {}
 
 
 class State:
@@ -161,6 +164,8 @@ class State:
             frame, number, _ = self.slot_trail.pop()
             frame.slots[number] = None
             frame.faded.pop(number, None)
+        for (index, number), term in choice.earlier.items():
+            self.frames[index].faded[number] = term
         self.registers = {}
         self.frame = choice.frame
 

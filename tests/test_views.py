@@ -3,10 +3,11 @@
 import unittest
 
 from helper import (
-    BUILT_IN, CONTROL, f, i, normal_goals, random_prolog_goal, random_prolog_program, read, renumbered, seeded, shown,
+    BUILT_IN, CONTROL, a, f, i, normal_goals, random_prolog_goal, random_prolog_program, read, renumbered, seeded, shown,
     v)
 from hornbook.machine import Machine
 from hornbook.program import Program, read_program
+from hornbook.terms import parts
 from test_search import WordSearch
 
 NO_PREDICATES = CONTROL + BUILT_IN
@@ -302,9 +303,53 @@ class Drawn(unittest.TestCase):
                 ("p(X) :- q(X, Y), (r(Y) -> fail, s(X) ; fail, s(Y)). q(f(A), g(B, A)). r(g(1, C)) :- t. r(D) :- t. "
                 "t :- u, u. u.",
                  "p(A), s(A)")):
-            given = read_program(program)
-            for collect_at in (tuple(range(2000)), tuple(range(0, 2000, 3)), tuple(range(5, 2000, 17))):
-                self.assertGreater(self.compare(given, read(query), 200, collect_at=collect_at), 4)
+            self.with_collections(program, query, 4)
+
+    def with_collections(self, program, query, least):
+        for collect_at in (tuple(range(2000)), tuple(range(0, 2000, 3)), tuple(range(5, 2000, 17))):
+            self.assertGreater(self.compare(read_program(program), read(query), 200, collect_at=collect_at), least)
+
+    def test_what_only_another_part_reaches_with_collections(self):
+        """Behind a construct of which the present part fails, but not the other one."""
+        for program, query in (
+                ("p(X) :- (q ; r, fail), t(X). q :- fail. r :- u, u. u.", "p(B)"),
+                ("p(X) :- (q -> r ; u, r, fail), t(X). q :- fail. r :- u, u. u.", "p(f(B))"),
+                ("p(X) :- (q -> r ; r, u, fail), t(X). q :- fail. r :- u, u. u.", "p(f(B))"),
+                ("p(X) :- (q ; r(Y), fail, s(Y)), t(X). q :- fail. r(f(A)) :- u(A), u(A). u(A).", "p(f(B))"),
+                ("p(X) :- q(X, Y), (u ; r, fail ; r, fail), t(X), t(Y). q(f(A), A). r :- u, u. u.", "p(B)")):
+            self.with_collections(program, query, 3)
+
+    def test_what_is_never_reached_behind_backtracking(self):
+        """A variable is shown unbound again, also where no cell is left of it."""
+        for program, query in (
+                ("p :- q(X), fail, r(X). q(X) :- findall(Y, u(X), L), w(L). u(f(Y)) :- k, z(Y), k. k. z(f(1)).", "p"),
+                ("p :- q(X), fail, r(X). q(X) :- catch(u(X), E, w), w. u(f(Y)) :- k, k, throw(1). k. w :- k.", "p"),
+                ("p :- q(X), fail, r(X). q(X) :- catch(u(X), E, w(E)), w(1). u(f(Y)) :- k(Y), k(Y), throw(Y). k(g(A)). "
+                 "k(B). w(A) :- k(A), k(1).", "p"),
+                ("p :- q(X, Y), fail, r(X, Y). q(X, Y) :- findall(A, u(X, Y), L), w(L). u(B, B) :- k, k. "
+                 "u(1, A) :- k, k. u(A, g(A, B)) :- k, k. k. w(A) :- k.", "p"),
+                ("p :- q(X, Y), fail, r(X, Y). q(X, Y) :- catch(s(X, Y), E, w), w. s(X, Y) :- catch(u(X), E, u(Y)), k. "
+                 "u(f(A)) :- k, k, v(A), throw(A). v(1) :- k. k. w :- k, k.", "p"),
+                ("p(Z) :- o(A), q(X, A), fail, r(X, A, Z). o(1). o(B). q(X, A) :- findall(1, u(X, A), L), w. "
+                 "u(f(C), C) :- k, k. k. w :- k, k.", "p(Z)"),
+                ("p :- q(X), fail, r(X). q(X) :- s(X, Y, Z). s(X, g(X), X) :- findall(1, u(X), L), w, w. "
+                 "u(A) :- v(A), k, k. v(1). v(B). v(h(C, C)). k. w :- k, k.", "p")):
+            self.with_collections(program, query, 6)
+
+    def test_drawn_goals_that_are_never_reached(self):
+        source = seeded(71)
+        views = 0
+        for number in range(300):
+            found, dynamic = random_prolog_program(source, calm=True)
+            for at, clause in enumerate(found):
+                if clause[0] == ("f", ":-", 2) and source.random() < 0.6:
+                    head, body = parts(clause)
+                    behind = f(",", a("fail"), random_prolog_goal(source, 2, calm=True))
+                    found[at] = f(":-", head, f(",", body, behind))
+            collect_at = tuple(range(number % 3, 3000, 1 + number % 3))
+            query = random_prolog_goal(source, 4, calm=True)
+            views += self.compare(Program(found, dynamic), query, 80, collect_at=collect_at)
+        self.assertGreater(views, 1500)
 
 
 if __name__ == "__main__":
